@@ -1,0 +1,22 @@
+"""The examples of the document, as they stand there."""
+
+import doctest
+import pathlib
+import unittest
+
+FOLDER = pathlib.Path(__file__).resolve().parent / "examples"
+
+
+class Examples(unittest.TestCase):
+
+    def test_each_file(self):
+        files = sorted(FOLDER.glob("*.txt"))
+        self.assertEqual([file.name for file in files], ["plain.txt", "values.txt"])
+        for file in files:
+            failed, tried = doctest.testfile(str(file), module_relative=False)
+            self.assertEqual(failed, 0, file.name)
+            self.assertGreater(tried, 0, file.name)
+
+
+if __name__ == "__main__":
+    unittest.main()

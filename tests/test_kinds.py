@@ -1,0 +1,32 @@
+import unittest
+
+from lyinghouse.kinds import is_clean, is_integer, is_name, number_in
+from samples import odd_values
+
+
+class Kinds(unittest.TestCase):
+
+    def test_integers(self):
+        for value, expected in [(0, True), (5, True), (-1, False), (6, False), (True, False), (False, False), ("1", False), (None, False)]:
+            self.assertIs(is_integer(value, 0, 5), expected)
+
+    def test_names(self):
+        for value, expected in [("a", True), ("z", True), ("abcdefgh", True), ("abcdefghi", False), ("", False), ("Ann", False),
+                                ("an n", False), ("ann\n", False), ("a1", False), ("a_", False), ("anN", False)]:
+            self.assertIs(is_name(value), expected)
+        for odd in odd_values():
+            self.assertIs(is_name(odd), isinstance(odd, str) and odd in ("a", "ann", "seal", "make"))
+
+    def test_clean_strings(self):
+        for text, expected in [("", True), ("\n", True), (" ~", True), ("a\nb\n", True), ("\t", False), ("a\tb", False)]:
+            self.assertIs(is_clean(text), expected)
+
+    def test_numbers_in_texts(self):
+        for word, expected in [("0", 0), ("7", 7), ("10", 10), ("999999999", 999999999)]:
+            self.assertEqual(number_in(word), expected)
+        for word in ["", "00", "07", "-1", "+1", "1 ", " 1", "1_0", "1.", "x", "1000000000", "0000000001", "9" * 5000, "1\n"]:
+            self.assertIsNone(number_in(word))
+
+
+if __name__ == "__main__":
+    unittest.main()
