@@ -42,10 +42,8 @@ def _read_entries(lines, tree):
     """Does in the tree what the lines behind the first one tell; the first path of each file."""
     files = []
     last = "/"
-    for at, line in enumerate(lines):
-        if at == 0:
-            continue
-        words = line.split(" ")
+    for at in range(1, len(lines)):
+        words = lines[at].split(" ")
         deed = _entry_deed(words, files)
         # The tree refuses an entry whose folder has not been told ahead of it.
         if deed is None or words[1] <= last or tree.done(deed) != DONE:
