@@ -1,6 +1,9 @@
-"""Why a deed is refused, what it changes, and what it asks: all for what is known to be a deed."""
+"""Why a deed is refused, what it changes, and what it asks: all for what is known to be a deed.
 
-from lyinghouse.things import enter, leave, many_entries, many_links, names_in, new_thing, text_at, thing_at, walk
+The things of the tree are Things, or LaidThings, which lie in blocks and are changed by the same methods.
+"""
+
+from lyinghouse.things import names_in, thing_at, walk
 
 MOST_ENTRIES = 200
 MOST_SIGNS = 2000
@@ -43,11 +46,12 @@ def _if_root(path, word):
 
 
 def _if_folder(things, path):
-    return _word_if(thing_at(things, path) in things.folders, "folder")
+    thing = thing_at(things, path)
+    return _word_if(thing is not None and things.is_folder(thing), "folder")
 
 
 def _if_file(things, path):
-    return _word_if(thing_at(things, path) in things.texts, "file")
+    return _word_if(not things.is_folder(thing_at(things, path)), "file")
 
 
 def _if_taken(things, path):
@@ -55,7 +59,7 @@ def _if_taken(things, path):
 
 
 def _if_full(things):
-    return _word_if(many_entries(things) >= MOST_ENTRIES, "full")
+    return _word_if(things.many_entries() >= MOST_ENTRIES, "full")
 
 
 def _going_to(things, path):
@@ -64,7 +68,7 @@ def _going_to(things, path):
 
 def _going_before(things, path):
     thing, word = walk(things, names_in(path)[:-1])
-    return word or _word_if(thing in things.texts, "file")
+    return word or _word_if(not things.is_folder(thing), "file")
 
 
 def _refuse_make(things, deed):
@@ -86,7 +90,7 @@ def _refuse_put(things, deed):
     word = _refuse_file(things, deed)
     if word != "":
         return word
-    is_beyond = at > len(text_at(things, path))
+    is_beyond = at > things.length_of(thing_at(things, path))
     return _word_if(is_beyond, "beyond") or _word_if(at + len(text) > MOST_SIGNS, "long")
 
 
@@ -106,7 +110,7 @@ def _refuse_move(things, deed):
     word = _if_root(path, "root") or _if_root(new, "root") or _going_to(things, path)
     if word != "":
         return word
-    is_inside = new.startswith(path + "/") and thing_at(things, path) in things.folders
+    is_inside = new.startswith(path + "/") and things.is_folder(thing_at(things, path))
     return _word_if(is_inside, "inside") or _going_before(things, new) or _if_taken(things, new)
 
 
@@ -115,7 +119,8 @@ def _refuse_remove(things, deed):
     word = _if_root(path, "root") or _going_to(things, path)
     if word != "":
         return word
-    return _word_if(len(things.folders.get(thing_at(things, path), {})) > 0, "used")
+    thing = thing_at(things, path)
+    return _word_if(things.is_folder(thing) and things.many_names(thing) > 0, "used")
 
 
 def _refuse_list(things, deed):
@@ -131,72 +136,74 @@ def _refuse_look(things, deed):
 
 
 def _make(things, deed):
-    folder = new_thing(things)
-    things.folders[folder] = {}
-    enter(things, deed[1], folder)
+    folder, name = _before(things, deed[1])
+    things.enter(folder, name, things.new_folder())
 
 
 def _write(things, deed):
     _, path, text = deed
     file = thing_at(things, path)
     if file is None:
-        file = new_thing(things)
-        enter(things, path, file)
-    things.texts[file] = text
+        folder, name = _before(things, path)
+        file = things.new_file()
+        things.enter(folder, name, file)
+    things.rewrite(file, len(text), 0, text)
 
 
 def _put(things, deed):
     _, path, at, text = deed
-    old = text_at(things, path)
-    things.texts[thing_at(things, path)] = old[:at] + text + old[at + len(text):]
+    file = thing_at(things, path)
+    things.rewrite(file, max(things.length_of(file), at + len(text)), at, text)
 
 
 def _cut(things, deed):
     _, path, length = deed
-    things.texts[thing_at(things, path)] = text_at(things, path)[:length]
+    file = thing_at(things, path)
+    things.rewrite(file, min(things.length_of(file), length), 0, "")
 
 
 def _link(things, deed):
     _, path, new = deed
-    enter(things, new, thing_at(things, path))
+    folder, name = _before(things, new)
+    things.enter(folder, name, thing_at(things, path))
 
 
 def _move(things, deed):
     _, path, new = deed
-    thing = thing_at(things, path)
-    leave(things, path)
-    enter(things, new, thing)
+    folder, name = _before(things, path)
+    other, new_name = _before(things, new)
+    things.shift(folder, name, other, new_name)
 
 
 def _remove(things, deed):
-    path = deed[1]
-    thing = thing_at(things, path)
-    leave(things, path)
-    if thing in things.folders:
-        del things.folders[thing]
-    elif many_links(things, thing) == 0:
-        del things.texts[thing]
+    folder, name = _before(things, deed[1])
+    things.leave(folder, name)
+
+
+def _before(things, path):
+    """The folder in which the entry at the path is, or will be, and the name of the entry."""
+    names = names_in(path)
+    return walk(things, names[:-1])[0], names[-1]
 
 
 def _read(things, deed):
-    return ("text", text_at(things, deed[1]))
+    return ("text", things.signs_of(thing_at(things, deed[1]), 0, MOST_SIGNS))
 
 
 def _part(things, deed):
     _, path, at, many = deed
-    return ("text", text_at(things, path)[at:at + many])
+    return ("text", things.signs_of(thing_at(things, path), at, many))
 
 
 def _list(things, deed):
-    names = things.folders[thing_at(things, deed[1])]
-    return ("names", tuple(sorted(list(names))))
+    return ("names", things.names_of(thing_at(things, deed[1])))
 
 
 def _look(things, deed):
     thing = thing_at(things, deed[1])
-    if thing in things.folders:
-        return ("folder", len(things.folders[thing]))
-    return ("file", len(things.texts[thing]), many_links(things, thing))
+    if things.is_folder(thing):
+        return ("folder", things.many_names(thing))
+    return ("file", things.length_of(thing), things.many_links(thing))
 
 
 REFUSALS = {

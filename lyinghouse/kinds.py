@@ -1,6 +1,9 @@
 """Kinds of arguments that several modules ask for."""
 
 NAME_LENGTH = 8
+FEWEST_DESKS = 2
+MOST_DESKS = 5
+GREATEST_NUMBER = 10 ** 18
 NUMBER_FIGURES = 9
 LETTERS = "abcdefghijklmnopqrstuvwxyz"
 
@@ -19,6 +22,22 @@ def is_made_of(text, signs):
 def is_name(value):
     """Whether any value is a name: one to eight letters a to z."""
     return isinstance(value, str) and 1 <= len(value) <= NAME_LENGTH and is_made_of(value, LETTERS)
+
+
+def is_names(value):
+    """Whether any value is the names of desks: an ascending tuple of two to five names."""
+    if not (isinstance(value, tuple) and FEWEST_DESKS <= len(value) <= MOST_DESKS):
+        return False
+    if not all([is_name(part) for part in value]):
+        return False
+    return all([value[at] < value[at + 1] for at in range(len(value) - 1)])
+
+
+def is_block(value):
+    """Whether any value could be the name of a block: who made it, and which one it is."""
+    if not (isinstance(value, tuple) and len(value) == 2):
+        return False
+    return is_name(value[0]) and is_integer(value[1], 0, GREATEST_NUMBER)
 
 
 def is_clean(text):

@@ -1,9 +1,8 @@
 """Values, their texts, and the seals in them."""
 
 from lyinghouse.errors import BadText, BadValue, BadValues
-from lyinghouse.kinds import is_clean, is_integer, is_name
+from lyinghouse.kinds import GREATEST_NUMBER, is_clean, is_integer, is_name
 
-GREATEST = 10 ** 18
 LONGEST = 100000
 DEEPEST = 30
 FIGURES = "0123456789"
@@ -11,7 +10,7 @@ FIGURES = "0123456789"
 
 def is_value(value):
     """Whether any value is None, an integer, a string or a tuple that can be said and kept."""
-    return _fits(value, DEEPEST)
+    return is_value_within(value, DEEPEST)
 
 
 def value_text(value):
@@ -79,19 +78,19 @@ def _check_value(value):
         raise BadValue(value)
 
 
-def _fits(value, room):
-    """Whether it is a value of at most this depth."""
+def is_value_within(value, room):
+    """Whether any value is a value of at most this depth."""
     if isinstance(value, tuple):
         # The depth is looked at ahead of the parts, so that nothing too deep is gone through.
         if room == 0:
             return False
         for part in value:
-            if not _fits(part, room - 1):
+            if not is_value_within(part, room - 1):
                 return False
         return True
     if isinstance(value, str):
         return len(value) <= LONGEST and is_clean(value)
-    return value is None or is_integer(value, -GREATEST, GREATEST)
+    return value is None or is_integer(value, -GREATEST_NUMBER, GREATEST_NUMBER)
 
 
 def _has_seal_form(value):
@@ -148,12 +147,12 @@ def _value_at(text, at, room):
 
 def _integer_at(text, at):
     if text[at:at + 1] != "-":
-        number, end = _number_at(text, at, GREATEST)
+        number, end = _number_at(text, at, GREATEST_NUMBER)
         return number, _behind(text, end, ";")
     # Python writes no -0.
     if text[at + 1:at + 2] == "0":
         raise BadText(at + 1)
-    number, end = _number_at(text, at + 1, GREATEST)
+    number, end = _number_at(text, at + 1, GREATEST_NUMBER)
     return -number, _behind(text, end, ";")
 
 

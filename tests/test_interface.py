@@ -16,8 +16,32 @@ FUNCTIONS = {
         "path_of": ["parts"], "played": ["deeds"],
     },
     "plaintexts": {"tree_text": ["tree"], "read_tree": ["text"]},
+    "maps": {
+        "map_get": ["bag", "root", "key"], "map_has": ["bag", "root", "key"], "map_put": ["bag", "name", "root", "key", "value"],
+        "map_drop": ["bag", "name", "root", "key"], "map_of": ["bag", "name", "rows"], "map_rows": ["bag", "root"],
+        "map_size": ["bag", "root"], "map_part": ["bag", "root", "low", "many"], "map_blocks": ["bag", "root"],
+        "map_changes": ["bag", "one", "other"],
+    },
+    "files": {
+        "file_new": ["bag", "name", "text"], "file_text": ["bag", "root"], "file_length": ["bag", "root"],
+        "file_part": ["bag", "root", "at", "many"], "file_put": ["bag", "name", "root", "at", "text"],
+        "file_cut": ["bag", "name", "root", "length"], "file_unlike": ["bag", "one", "other"], "file_blocks": ["bag", "root"],
+    },
+    "trees": {
+        "tree_new": ["bag", "name"], "tree_do": ["bag", "name", "root", "deed"], "tree_of": ["bag", "name", "plain"],
+        "tree_plain": ["bag", "root"], "tree_thing": ["bag", "root", "path"], "tree_blocks": ["bag", "root"],
+        "tree_many": ["bag", "root"],
+    },
 }
-METHODS = {"done": ["deed"], "answer": ["deed"], "paths": [], "links": ["path"], "copy": []}
+# Of each class: its parameters, its methods with theirs, and an object of it.
+CLASSES = {
+    "plain.PlainTree": ([], {"done": ["deed"], "answer": ["deed"], "paths": [], "links": ["path"], "copy": []}, ()),
+    "bag.Bag": ([], {
+        "next_number": ["name"], "skip_to": ["name", "number"], "add": ["name", "body"], "take": ["seal"], "body": ["block"],
+        "seal_of": ["block"], "let_go": ["block"], "copy": [],
+    }, ()),
+}
+PROPERTIES = {"plain.PlainTree": ["text"], "bag.Bag": ["blocks"]}
 PACKAGE = pathlib.Path(__file__).resolve().parent.parent / "lyinghouse"
 
 
@@ -31,17 +55,20 @@ class Interface(unittest.TestCase):
                 self.assertEqual(found.__module__, "lyinghouse." + file)
                 self.assertEqual(list(inspect.signature(found).parameters), parameters, name)
 
-    def test_the_class_has_its_methods_itself(self):
-        kind = import_module("lyinghouse.plain").PlainTree
-        self.assertEqual(kind.__module__, "lyinghouse.plain")
-        self.assertEqual(list(inspect.signature(kind).parameters), [])
-        self.assertIsInstance(vars(kind)["text"], property)
-        for name, parameters in METHODS.items():
-            found = list(inspect.signature(vars(kind)[name]).parameters)
-            self.assertEqual(found, ["self"] + parameters, name)
+    def test_classes_have_their_methods_themselves(self):
+        for told, (parameters, methods, args) in CLASSES.items():
+            file, name = told.split(".")
+            kind = vars(import_module("lyinghouse." + file))[name]
+            self.assertEqual(kind.__module__, "lyinghouse." + file)
+            self.assertEqual(list(inspect.signature(kind).parameters), parameters)
+            for method, its in methods.items():
+                found = list(inspect.signature(vars(kind)[method]).parameters)
+                self.assertEqual(found, ["self"] + its, method)
+            for attribute in PROPERTIES[told]:
+                self.assertTrue(hasattr(kind(*args), attribute), attribute)
 
     def test_arguments_may_be_named(self):
-        values, plain, texts = [import_module("lyinghouse." + file) for file in FUNCTIONS]
+        values, plain, texts = [import_module("lyinghouse." + file) for file in ("values", "plain", "plaintexts")]
         self.assertEqual(values.read_value(text=values.value_text(value=(1,))), (1,))
         self.assertEqual(values.first_values(text="n"), ((None,), 1))
         self.assertTrue(values.is_value(value=1) and not values.is_seal(value=1))

@@ -1,6 +1,6 @@
 import unittest
 
-from lyinghouse.kinds import is_clean, is_integer, is_name, number_in
+from lyinghouse.kinds import is_block, is_clean, is_integer, is_name, is_names, number_in
 from samples import odd_values
 
 
@@ -16,6 +16,22 @@ class Kinds(unittest.TestCase):
             self.assertIs(is_name(value), expected)
         for odd in odd_values():
             self.assertIs(is_name(odd), isinstance(odd, str) and odd in ("a", "ann", "seal", "make"))
+
+    def test_names_of_desks(self):
+        for value, expected in [(("a", "b"), True), (("a", "b", "c", "d", "e"), True), (("ann", "anna"), True), (("a",), False), ((), False),
+                                (("a", "b", "c", "d", "e", "f"), False), (("b", "a"), False), (("a", "a"), False), (["a", "b"], False),
+                                (("a", "B"), False), (("a", 1), False), (("", "a"), False), ("ab", False), (("a", None), False)]:
+            self.assertIs(is_names(value), expected, value)
+        for odd in odd_values():
+            self.assertIs(is_names(odd), False)
+            self.assertIs(is_names(("a", odd)), isinstance(odd, str) and odd in ("ann", "seal", "make"))
+
+    def test_names_of_blocks(self):
+        for value, expected in [(("ann", 0), True), (("a", 10 ** 18), True), (("ann", 10 ** 18 + 1), False), (("ann", -1), False), (("ann", True), False),
+                                (("ann", "0"), False), (("Ann", 0), False), (["ann", 0], False), (("ann",), False), (("ann", 0, 0), False), ((0, "ann"), False)]:
+            self.assertIs(is_block(value), expected, value)
+        for odd in odd_values():
+            self.assertIs(is_block(odd), False)
 
     def test_clean_strings(self):
         for text, expected in [("", True), ("\n", True), (" ~", True), ("a\nb\n", True), ("\t", False), ("a\tb", False)]:
