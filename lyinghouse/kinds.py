@@ -4,6 +4,7 @@ NAME_LENGTH = 8
 FEWEST_DESKS = 2
 MOST_DESKS = 5
 GREATEST_NUMBER = 10 ** 18
+GREATEST_COUNT = 10 ** 9
 NUMBER_FIGURES = 9
 LETTERS = "abcdefghijklmnopqrstuvwxyz"
 
@@ -31,6 +32,13 @@ def is_names(value):
     if not all([is_name(part) for part in value]):
         return False
     return all([value[at] < value[at + 1] for at in range(len(value) - 1)])
+
+
+def are_counts(value, many):
+    """Whether any value is counts for so many desks."""
+    if not (isinstance(value, tuple) and len(value) == many):
+        return False
+    return all([is_integer(part, 0, GREATEST_COUNT) for part in value])
 
 
 def is_block(value):

@@ -11,7 +11,7 @@ class Examples(unittest.TestCase):
 
     def test_each_file(self):
         files = sorted(FOLDER.glob("*.txt"))
-        self.assertEqual([file.name for file in files], ["files.txt", "maps.txt", "plain.txt", "trees.txt", "values.txt"])
+        self.assertEqual([file.name for file in files], ["files.txt", "keeps.txt", "maps.txt", "plain.txt", "rows.txt", "trees.txt", "values.txt"])
         for file in files:
             failed, tried = doctest.testfile(str(file), module_relative=False)
             self.assertEqual(failed, 0, file.name)

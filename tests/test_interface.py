@@ -32,6 +32,18 @@ FUNCTIONS = {
         "tree_plain": ["bag", "root"], "tree_thing": ["bag", "root", "path"], "tree_blocks": ["bag", "root"],
         "tree_many": ["bag", "root"],
     },
+    "discs": {
+        "is_image": ["value"], "new_image": ["sectors"], "done_steps": ["image", "steps"], "open_writes": ["image", "steps"],
+        "left_by": ["image", "steps", "choices"],
+    },
+    "keeps": {"keep_again": ["image"]},
+    "rows": {
+        "is_past": ["names", "value"], "sides": ["one", "other"], "joined": ["one", "other"], "common": ["one", "other"],
+        "row_of": ["names", "past", "counts"], "row_sides": ["names", "past", "one", "other"],
+        "parting": ["names", "past", "one", "other"], "ends": ["names", "past"], "stood_on": ["names", "past", "counts"],
+        "made_on": ["names", "past", "name", "counts", "deed"], "rows_told": ["names", "past", "rows"],
+    },
+    "desk": {"desk_again": ["image", "room"]},
 }
 # Of each class: its parameters, its methods with theirs, and an object of it.
 CLASSES = {
@@ -40,8 +52,15 @@ CLASSES = {
         "next_number": ["name"], "skip_to": ["name", "number"], "add": ["name", "body"], "take": ["seal"], "body": ["block"],
         "seal_of": ["block"], "let_go": ["block"], "copy": [],
     }, ()),
+    "keeps.Keep": (["sectors"], {"add": ["value"], "pack": ["values"]}, (16,)),
+    "desk.Desk": (["name", "names", "room", "sectors"], {
+        "ask": ["deed"], "hear": ["answer"], "rest": [], "meet": ["counts"], "pack": [],
+    }, ("ann", ("ann", "bob"), 40, 200)),
 }
-PROPERTIES = {"plain.PlainTree": ["text"], "bag.Bag": ["blocks"]}
+PROPERTIES = {
+    "plain.PlainTree": ["text"], "bag.Bag": ["blocks"], "keeps.Keep": ["sectors", "rows", "image", "steps"],
+    "desk.Desk": ["name", "names", "room", "counts", "doing", "made", "is_cheated", "held", "image", "steps"],
+}
 PACKAGE = pathlib.Path(__file__).resolve().parent.parent / "lyinghouse"
 
 

@@ -1,6 +1,6 @@
 import unittest
 
-from lyinghouse.kinds import is_block, is_clean, is_integer, is_name, is_names, number_in
+from lyinghouse.kinds import are_counts, is_block, is_clean, is_integer, is_name, is_names, number_in
 from samples import odd_values
 
 
@@ -25,6 +25,11 @@ class Kinds(unittest.TestCase):
         for odd in odd_values():
             self.assertIs(is_names(odd), False)
             self.assertIs(is_names(("a", odd)), isinstance(odd, str) and odd in ("ann", "seal", "make"))
+
+    def test_counts(self):
+        for value, expected in [((0, 0), True), ((10 ** 9, 1), True), ((10 ** 9 + 1, 1), False), ((0, -1), False), ((0, True), False), ((0, "1"), False),
+                                ((0,), False), ((0, 0, 0), False), ([0, 0], False), ((), False), (0, False)]:
+            self.assertIs(are_counts(value, 2), expected, value)
 
     def test_names_of_blocks(self):
         for value, expected in [(("ann", 0), True), (("a", 10 ** 18), True), (("ann", 10 ** 18 + 1), False), (("ann", -1), False), (("ann", True), False),
