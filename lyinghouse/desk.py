@@ -288,9 +288,11 @@ class Desk:
     def _close(self):
         """No deed is open any more: of the blocks at hand the eldest ones go, if they are too many."""
         self._errand = None
-        eldest = sorted([(number, name) for name, number in self._bag.blocks])
-        for number, name in eldest[:max(len(eldest) - self.room, 0)]:
-            self._bag.let_go((name, number))
+        many = max(len(self._bag) - self.room, 0)
+        if many > 0:
+            eldest = sorted([(number, name) for name, number in self._bag.blocks])[:many]
+            for number, name in eldest:
+                self._bag.let_go((name, number))
 
     def _raise_floor(self, counts):
         """From now on the desk goes over to nothing that is somewhere below these counts."""

@@ -373,6 +373,70 @@ class Houses(unittest.TestCase):
         does(self.bob, other, ("make", "/r"))
         self.assertEqual(work(desk, other), ("cheated",))
 
+    def test_parted_at_other_desks_alone(self):
+        """The own count is there, but what the desk goes by of one desk is exchanged for what another one has made."""
+        names = ("ann", "bob", "cid")
+        ann, bob, cid = [Desk(name, names, 40, 300) for name in names]
+        house = HouseOfTests(names)
+        does(ann, house, ("make", "/a"))
+        other = house.copy()
+        does(bob, house, ("make", "/b"))
+        does(cid, other, ("make", "/c"))
+        self.assertEqual(does(ann, house, ("look", "/")), ("done", ("folder", 2)))
+        self.assertEqual((ann.counts, other.counts), ((1, 1, 0), (1, 0, 1)))
+        for word in ("newest", "turn"):
+            desk = desk_again(ann.image, 40)
+            desk.ask(("make", "/d"))
+            if word == "turn":
+                while desk.rest()[0] != "turn":
+                    desk.hear(house.hear("ann", desk.rest()))
+            self.assertEqual(desk.hear((word, other.statement)), ("cheated",))
+            self.assertEqual(desk.counts, (1, 1, 0))
+
+    def test_nobody_comes_to_wait_where_the_house_is_below(self):
+        """A turn that was to be asked for in one house is asked for in another one."""
+        desk = desk_again(self.ann.image, 40)
+        desk.meet((1, 2))
+        ahead = self.house.copy()
+        does(self.bob, ahead, ("make", "/more"))
+        for house, word in ((self.house, "wait"), (self.old, "cheated")):
+            again = desk_again(desk.image, 40)
+            again.ask(("make", "/q"))
+            while again.rest()[0] != "turn":
+                again.hear(ahead.hear("ann", again.rest()))
+            self.assertEqual(again.hear(house.hear("ann", again.rest()))[0], word)
+            self.assertEqual(house.waiting, ())
+
+    def test_odd_answers_to_a_statement(self):
+        desk = desk_again(self.ann.image, 40)
+        desk.ask(("make", "/q"))
+        while desk.counts == (1, 1):
+            desk.hear(self.house.hear("ann", desk.rest()))
+        message = desk.rest()
+        for answer in (("newest", self.house.statement), ("wait",), None, ("kept", 1), message, ("newest", 7)):
+            self.assertEqual(desk.hear(answer), ("wait", message))
+        later = self.house.copy()
+        later.hear("ann", message)
+        does(self.bob, later, ("make", "/r"))
+        for answer in (("newest", message[1]), ("newest", later.statement), ("kept",)):
+            again = desk_again(desk.image, 40)
+            self.assertEqual(again.hear(answer), ("done", ("done",)))
+            self.assertEqual((again.counts, again.rest()), ((2, 1), None))
+
+    def test_another_block_than_the_one_that_is_needed(self):
+        desk = desk_again(self.ann.image, 40)
+        desk.ask(("list", "/"))
+        desk.hear(self.house.hear("ann", desk.rest()))
+        block = desk.rest()[1:]
+        for other in self.house.bag.blocks:
+            if other != block:
+                self.assertEqual(desk.hear(("block", self.house.bag.seal_of(other)))[0], "wait")
+                self.assertEqual(desk.held, 0)
+                desk.hear(self.house.hear("ann", desk.rest()))
+                self.assertEqual(desk.rest(), ("block", *block))
+        self.assertEqual(desk.hear(("block", None))[0], "wait")
+        self.assertEqual(work(desk, self.house), ("done", ("names", ("a", "b"))))
+
     def test_turns(self):
         house, ann, bob = self.house, self.ann, self.bob
         ann.ask(("make", "/one"))

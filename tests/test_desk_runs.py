@@ -106,8 +106,11 @@ class Liar:
         if kind < 0.75:
             return self.honest(chance.choice(self.houses), name, message)
         seal = chance.choice(seals) if seals else None
+        # Statements of long ago are what a lie is mostly made of.
+        stated = [other for other in seals if other[2][0] == "statement"]
+        old = chance.choice(stated) if stated else None
         return chance.choice((
-            ("newest", seal), ("turn", seal), ("block", seal), ("newest", None), ("turn", None), KEPT, FREED, WAIT, None, message, (seal,), seal,
+            ("newest", old), ("turn", old), ("newest", old), ("turn", old), ("newest", seal), ("turn", seal), ("block", seal), ("newest", None), ("turn", None), KEPT, FREED, WAIT, None, message, (seal,), seal,
             ("newest", seal, 1), ("newest", ("statement", (1, 0), ("look", "/"), ("ann", 0))), ("block", None), 7, "newest", (), ("newest",)))
 
     def honest(self, house, name, message):

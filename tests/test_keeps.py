@@ -1,7 +1,7 @@
 import random
 import unittest
 
-from lyinghouse.discs import done_steps, new_image
+from lyinghouse.discs import done_steps, left_by, new_image
 from lyinghouse.errors import BadImage, BadNumber, BadValue, BadValues, TooFull
 from lyinghouse.keeps import Keep, keep_again
 from lyinghouse.values import is_value, value_text
@@ -22,6 +22,11 @@ def some_value(chance, most=200):
         return chance.choice((None, 0, 1, -1, (), ""))
     if kind == 1:
         return "".join(chance.choice(("0v", "1v", "0a")) + "0" * 11 + chance.choice("01234") + "0" * 7 + chance.choice("159") for _ in range(6))
+    if kind == 2:
+        # Wherever a sector begins within this text, something like a head may stand there.
+        head = (f"v{chance.randrange(4):012d}{chance.randrange(60):08d}s5:about" + "0" * 62)[:62]
+        start = chance.randrange(62)
+        return (head * 5)[start:start + chance.randrange(most)]
     return "".join(chance.choice(SIGNS) for _ in range(chance.randrange(most)))
 
 
@@ -206,6 +211,32 @@ class Falls(unittest.TestCase):
                     self.assertIn(again.rows, (keep.rows,) if is_done else (rows, keep.rows))
                     keep = again
 
+    def test_texts_that_look_like_rows_and_are_cut(self):
+        """What a cut leaves of a text lies where later a row is looked for, and was written to look like one."""
+        for many in (1, 2, 3):
+            keep = Keep(40)
+            keep.pack(())
+            for _ in range(many):
+                for value in (1,) * 15:
+                    keep.add(value)
+                keep.pack(())
+                keep.pack(())
+            like = f"v{2 * many + 1:012d}00000001n".ljust(62)
+            value = "q" * 36 + like * 3
+            before = keep.image
+            keep.add(value)
+            self.assertEqual(value_text(value)[41:103], like)
+            writes = keep.steps[:3]
+            for cut in range(1, 4):
+                for signs in range(65):
+                    left = left_by(before, writes[:cut], (64,) * (cut - 1) + (signs,))
+                    again = keep_again(left)
+                    self.assertEqual(again.rows, ())
+                    for row in (5, "x" * 60, "x" * 120):
+                        more = keep_again(left)
+                        more.add(row)
+                        self.assertEqual(keep_again(more.image).rows, (row,))
+
     def test_falls_again_and_again_in_one_place(self):
         chance = random.Random(34)
         for _ in range(60):
@@ -216,7 +247,7 @@ class Falls(unittest.TestCase):
                 keep = keep_again(image)
                 self.assertEqual(keep.rows, ("old",))
                 before = keep.image
-                value = "".join(chance.choice(SIGNS) for _ in range(chance.randrange(150)))
+                value = some_value(chance)
                 if chance.random() < 0.5:
                     keep.add(value)
                 else:

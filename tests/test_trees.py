@@ -266,6 +266,16 @@ class Needs(unittest.TestCase):
             self.assertLessEqual(needs, self.asked(("look", path)))
         self.assertLessEqual(len(needed(lambda bag: tree_many(bag, self.root), self.bag)), 1)
 
+    def test_what_is_gone_has_no_blocks(self):
+        text = self.asked(("read", "/y")) - self.asked(("look", "/y"))
+        root = self.root
+        for path in self.plain.links("/y"):
+            self.assertLessEqual(text, set(tree_blocks(self.bag, root)))
+            root = tree_do(self.bag, "ann", root, ("remove", path))[1]
+        self.assertEqual(text & set(tree_blocks(self.bag, root)), set())
+        root = tree_do(self.bag, "ann", self.root, ("cut", "/y", 0))[1]
+        self.assertEqual(text & set(tree_blocks(self.bag, root)), set())
+
     def test_fetched_one_by_one(self):
         for call in (tree_plain, tree_blocks, tree_many):
             told, given = fetched(lambda bag: call(bag, self.root), self.bag)
