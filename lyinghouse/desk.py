@@ -10,7 +10,7 @@ from lyinghouse.errors import (
 from lyinghouse.keeps import Keep, keep_again
 from lyinghouse.kinds import are_counts, is_names
 from lyinghouse.messages import (
-    FREE, FREED, KEPT, NEWEST, ON_BLOCK, ON_FREE, ON_KEEP, ON_NEWEST, ON_TURN, base_told, block_told,
+    FREE, FREED, KEPT, NEWEST, NO_BLOCK, ON_BLOCK, ON_FREE, ON_KEEP, ON_NEWEST, ON_TURN, base_told, block_told,
 )
 from lyinghouse.plain import is_deed
 from lyinghouse.rows import greater_counts, sides_of, with_one_more
@@ -28,8 +28,9 @@ class Errand:
 
     stage tells the answer that is needed, message what asks for it. The deed is worked out on base, the counts and
     the root of a statement that was told as the newest one; has_turn is whether it was told with the turn.
-    may_wait is whether a house may have the desk among those who wait for a turn. block is the one that is fetched;
-    told is the answer to the deed, while the desk only waits to be free of its turn.
+    may_wait is whether a house may have the desk among those who wait for a turn. block is the one that is fetched,
+    has_lacked is whether a block was not to be had, so that the newest statement was asked for again; told is the
+    answer to the deed, while the desk only waits to be free of its turn.
     """
 
     def __init__(self, stage, message, may_wait):
@@ -38,6 +39,7 @@ class Errand:
         self.may_wait = may_wait
         self.base = None
         self.has_turn = False
+        self.has_lacked = False
         self.block = None
         self.told = None
 
@@ -160,9 +162,13 @@ class Desk:
 
     def _hear_block(self, answer):
         errand = self._errand
+        if answer == NO_BLOCK and not errand.has_lacked:
+            # The house may have packed, and keep another statement by now; but it is asked but once in a row.
+            again = Errand(ON_NEWEST, NEWEST, errand.may_wait)
+            again.has_lacked = True
+            return self._say(again, None, self._bag)
         seal = block_told(errand.block, answer)
         if seal is None:
-            # The house may have packed: what it keeps now may be another statement.
             return self._begin_anew()
         bag = self._bag.copy()
         bag.take(seal)
@@ -256,6 +262,7 @@ class Desk:
 
     def _say(self, errand, base, bag):
         errand.base = base
+        errand.has_lacked = errand.has_lacked or self._errand.has_lacked
         self._errand = errand
         self._bag = bag
         return ("say", errand.message)

@@ -1,7 +1,7 @@
 """What desks say to a house, and what an honest one answers.
 
 - To NEWEST it answers ("newest", statement): the one that it keeps, None if there is none.
-- To ("block", name, number) it answers ("block", seal): the seal of this block, None if it does not hold it.
+- To ("block", name, number) it answers ("block", seal), the seal of this block, or NO_BLOCK if it does not hold it.
 - To ("turn", counts) it answers ("turn", statement), the one that it keeps, if the desk has the turn, WAIT if it has
   to wait for it. If what the house keeps is somewhere below these counts, it answers as to NEWEST instead, and the
   desk does not come to wait there.
@@ -23,6 +23,7 @@ FREE = ("free",)
 FREED = ("freed",)
 KEPT = ("kept",)
 WAIT = ("wait",)
+NO_BLOCK = ("block", None)
 ON_NEWEST = "newest"
 ON_BLOCK = "block"
 ON_TURN = "turn"

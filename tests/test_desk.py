@@ -434,7 +434,17 @@ class Houses(unittest.TestCase):
                 self.assertEqual(desk.held, 0)
                 desk.hear(self.house.hear("ann", desk.rest()))
                 self.assertEqual(desk.rest(), ("block", *block))
-        self.assertEqual(desk.hear(("block", None))[0], "wait")
+        self.assertEqual(work(desk, self.house), ("done", ("names", ("a", "b"))))
+
+    def test_a_block_that_is_not_to_be_had(self):
+        """The newest statement is asked for again; if a block is lacking then, too, the desk waits."""
+        desk = desk_again(self.ann.image, 40)
+        desk.ask(("list", "/"))
+        first = desk.rest()
+        for _ in range(3):
+            told = [desk.hear(self.house.hear("ann", first)), desk.hear(("block", None)), desk.hear(self.house.hear("ann", first)), desk.hear(("block", None))]
+            self.assertEqual([row[0] for row in told], ["say", "say", "say", "wait"])
+            self.assertEqual((told[1][1], told[3][1]), (first, first))
         self.assertEqual(work(desk, self.house), ("done", ("names", ("a", "b"))))
 
     def test_turns(self):
@@ -475,10 +485,8 @@ class Houses(unittest.TestCase):
         self.bob.hear(house.hear("bob", self.bob.rest()))
         does(self.ann, house, ("write", "/a/x", "y" * 1000))
         house.pack()
-        for _ in range(100):
-            if self.bob.doing is not None:
-                self.bob.hear(house.hear("bob", self.bob.rest()))
-        self.assertEqual((self.bob.doing, self.bob.counts), (None, house.counts))
+        self.assertEqual(work(self.bob, house), ("done", ("text", "y" * 1000)))
+        self.assertEqual(self.bob.counts, house.counts)
 
 
 class Room(unittest.TestCase):
