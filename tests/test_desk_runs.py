@@ -15,7 +15,7 @@ from worlds import Honest, World
 
 def small_deed(chance):
     """A deed on few paths, so that desks meet one another there."""
-    path, new = ["/" + "/".join(chance.choice("abs") for _ in range(chance.choice((1, 1, 2, 3)))) for _ in "12"]
+    path, new = ["/" + "/".join(chance.choice(("a", "b", "seal")) for _ in range(chance.choice((1, 1, 2, 3)))) for _ in "12"]
     text = chance.choice(("", "x", "one\ntwo\n", "y" * chance.randrange(200), "seal"))
     at, many = chance.choice((0, 1, 64, 100)), chance.choice((0, 3, 300))
     return chance.choice((
