@@ -300,6 +300,21 @@ class Houses(unittest.TestCase):
         self.assertEqual(house.waiting, waiting)
         return [row[0] for row in told]
 
+    def test_two_worlds(self):
+        """The example of section 11, at a house of these tests."""
+        house = HouseOfTests(NAMES)
+        ann, bob = desks()
+        self.assertEqual(does(ann, house, ("write", "/note", "hello")), ("done", ("done",)))
+        self.assertEqual(does(bob, house, ("read", "/note")), ("done", ("text", "hello")))
+        self.assertEqual((ann.counts, bob.counts), ((1, 0), (1, 0)))
+        other = house.copy()
+        self.assertEqual(does(ann, house, ("write", "/note", "one")), ("done", ("done",)))
+        self.assertEqual(does(bob, other, ("write", "/note", "two")), ("done", ("done",)))
+        self.assertEqual((ann.counts, bob.counts), ((2, 0), (1, 1)))
+        self.assertEqual((does(bob, house, ("read", "/note")), bob.is_cheated), (("cheated",), True))
+        self.assertEqual((ann.meet((1, 1)), ann.made), ("parted", (2, (2, 0), ("write", "/note", "one"))))
+        self.assertTrue(ann.is_cheated)
+
     def test_somewhere_below_its_own(self):
         for deed in (("look", "/"), ("make", "/c"), ("make", "/a")):
             for house in (self.old, HouseOfTests(NAMES), self.old.copy()):
