@@ -10,7 +10,7 @@ from lyinghouse.errors import (
 from lyinghouse.keeps import Keep, keep_again
 from lyinghouse.kinds import are_counts, is_names
 from lyinghouse.messages import (
-    FREE, FREED, KEPT, NEWEST, NO_BLOCK, ON_BLOCK, ON_FREE, ON_KEEP, ON_NEWEST, ON_TURN, base_told, block_told,
+    FREE, FREED, KEPT, NEWEST, NO_BLOCK, ON_BLOCK, ON_FREE, ON_KEEP, ON_NEWEST, ON_TURN, WAIT, base_told, block_told,
 )
 from lyinghouse.plain import is_deed
 from lyinghouse.rows import greater_counts, sides_of, with_one_more
@@ -29,7 +29,7 @@ class Errand:
     stage tells the answer that is needed, message what asks for it. The deed is worked out on base, the counts and
     the root of a statement that was told as the newest one; has_turn is whether it was told with the turn.
     may_wait is whether a house may have the desk among those who wait for a turn. block is the one that is fetched,
-    has_lacked is whether a block was not to be had, so that the newest statement was asked for again; told is the
+    lacked the base of which a block was not to be had, so that the newest statement was asked for again; told is the
     answer to the deed, while the desk only waits to be free of its turn.
     """
 
@@ -39,7 +39,7 @@ class Errand:
         self.may_wait = may_wait
         self.base = None
         self.has_turn = False
-        self.has_lacked = False
+        self.lacked = None
         self.block = None
         self.told = None
 
@@ -139,11 +139,8 @@ class Desk:
 
     def _write(self, standing):
         """Stands so from now on, once it lies on the disc. Whoever calls this changes nothing ahead of it."""
-        row = standing.row()
-        try:
-            self._keep.add(row)
-        except TooFull:
-            self._keep.pack((row,))
+        # Only the last row is ever needed: so there is one alone, and little to be read behind a fall.
+        self._keep.pack((standing.row(),))
         self._did = self._keep.steps
         self._show(standing)
 
@@ -162,17 +159,26 @@ class Desk:
 
     def _hear_block(self, answer):
         errand = self._errand
-        if answer == NO_BLOCK and not errand.has_lacked:
-            # The house may have packed, and keep another statement by now; but it is asked but once in a row.
-            again = Errand(ON_NEWEST, NEWEST, errand.may_wait)
-            again.has_lacked = True
-            return self._say(again, None, self._bag)
+        if answer == NO_BLOCK:
+            return self._hear_lack()
         seal = block_told(errand.block, answer)
         if seal is None:
+            return self._wait()
+        self._bag.take(seal)
+        try:
+            return self._work(errand.base, errand.has_turn)
+        except TooFull:
+            self._bag.let_go(errand.block)
+            raise
+
+    def _hear_lack(self):
+        """The house may have packed, and keep another statement by now; if it still tells this one, the desk waits."""
+        errand = self._errand
+        if errand.lacked == errand.base:
             return self._begin_anew()
-        bag = self._bag.copy()
-        bag.take(seal)
-        return self._work(errand.base, errand.has_turn, bag)
+        again = Errand(ON_NEWEST, NEWEST, errand.may_wait)
+        again.lacked = errand.base
+        return self._say(again, None)
 
     def _hear_turn(self, answer):
         base = base_told(self.names, ON_TURN, answer)
@@ -181,23 +187,25 @@ class Desk:
         base = base_told(self.names, ON_NEWEST, answer)
         if base is not None and not self._is_beginning_of(base[0]):
             return self._find_cheated()
-        return self._begin_anew()
+        # What is neither told to who waits for a turn, nor where it is not to be had, answers something else.
+        is_of_use = answer == WAIT or base is not None and not self._is_at_floor(base[0])
+        return self._begin_anew() if is_of_use else self._wait()
 
     def _hear_freed(self, answer):
         if answer != FREED:
-            return self._begin_anew()
-        return self._finish(self._errand.base[0], self._errand.told, self._bag)
+            return self._wait()
+        return self._finish(self._errand.base[0], self._errand.told)
 
     def _hear_kept(self, answer):
         if answer == KEPT:
-            return self._finish(self.counts, DONE, self._bag)
+            return self._finish(self.counts, DONE)
         base = base_told(self.names, ON_NEWEST, answer)
         if base is None or with_one_more(base[0], self._standing.own()) == self.counts:
             return self._wait()
         if not self._is_beginning_of(base[0]):
             return self._find_cheated()
         # A statement that stands on the own one tells as well that this one is kept.
-        return self._finish(self.counts, DONE, self._bag)
+        return self._finish(self.counts, DONE)
 
     def _is_beginning_of(self, counts):
         """Whether the desk's row is the beginning of the one with these counts, as far as houses can be right."""
@@ -210,42 +218,45 @@ class Desk:
             return self._find_cheated()
         if not self._is_at_floor(base[0]):
             return self._begin_anew()
-        return self._work(base, has_turn, self._bag)
+        return self._work(base, has_turn)
 
     def _is_at_floor(self, counts):
         return sides_of(counts, self._standing.floor) in ("alike", "ahead")
 
-    def _work(self, base, has_turn, bag):
-        """Works the deed out on this base, with the blocks of this bag; what is to be done then."""
-        trial = bag.copy()
-        trial.skip_to(self.name, self._standing.number)
+    def _work(self, base, has_turn):
+        """Works the deed out on this base; what is to be done then."""
+        trial = self._bag
         counts, root = base
+        if root is None or is_change(self.doing):
+            # What is made on trial may come to nothing.
+            trial = trial.copy()
+            trial.skip_to(self.name, self._standing.number)
         if root is None:
             root = tree_new(trial, self.name)
         try:
             answer, new = tree_do(trial, self.name, root, self.doing)
         except NoBlock as error:
-            return self._fetch(base, has_turn, bag, error.value)
+            return self._fetch(base, has_turn, error.value)
         if new == root:
-            return self._answered(base, bag, answer)
+            return self._answered(base, answer)
         if has_turn:
             return self._state(counts, new, trial)
         message = (ON_TURN, greater_counts(self.counts, self._standing.floor))
-        return self._say(Errand(ON_TURN, message, True), base, bag)
+        return self._say(Errand(ON_TURN, message, True), base)
 
-    def _fetch(self, base, has_turn, bag, block):
+    def _fetch(self, base, has_turn, block):
         errand = Errand(ON_BLOCK, (ON_BLOCK, *block), self._errand.may_wait)
         errand.has_turn = has_turn
         errand.block = block
-        return self._say(errand, base, bag)
+        return self._say(errand, base)
 
-    def _answered(self, base, bag, answer):
+    def _answered(self, base, answer):
         """The deed leaves the tree as it is: nobody has to wait for this desk any more."""
         if not self._errand.may_wait:
-            return self._finish(base[0], answer, bag)
+            return self._finish(base[0], answer)
         errand = Errand(ON_FREE, FREE, True)
         errand.told = answer
-        return self._say(errand, base, bag)
+        return self._say(errand, base)
 
     def _state(self, counts, root, bag):
         """Makes the statement. It lies on the disc, with its blocks, ahead of anything that is said of them."""
@@ -258,13 +269,14 @@ class Desk:
         standing.number = bag.next_number(self.name)
         standing.unsaid = (root, bodies)
         self._write(standing)
-        return self._say(_errand_again(standing), None, bag)
-
-    def _say(self, errand, base, bag):
-        errand.base = base
-        errand.has_lacked = errand.has_lacked or self._errand.has_lacked
-        self._errand = errand
         self._bag = bag
+        return self._say(_errand_again(standing), None)
+
+    def _say(self, errand, base):
+        errand.base = base
+        if errand.lacked is None:
+            errand.lacked = self._errand.lacked
+        self._errand = errand
         return ("say", errand.message)
 
     def _wait(self):
@@ -274,13 +286,12 @@ class Desk:
         self._errand = Errand(ON_NEWEST, NEWEST, self._errand.may_wait)
         return self._wait()
 
-    def _finish(self, counts, answer, bag):
+    def _finish(self, counts, answer):
         """The deed is done: the desk goes by the row with these counts."""
         standing = self._standing.copy()
         standing.counts = counts
         standing.doing = standing.unsaid = None
         self._write(standing)
-        self._bag = bag
         self._close()
         return ("done", answer)
 

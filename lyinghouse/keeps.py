@@ -10,7 +10,7 @@ from lyinghouse.checks import check_number
 from lyinghouse.discs import FENCE, MOST_SECTORS, is_image, new_image, written
 from lyinghouse.errors import BadImage, BadValue, BadValues, TooFull
 from lyinghouse.sectors import OF_AREA, OF_VALUE, area_head, generation_in, many_tails, tails_of, value_at, value_head
-from lyinghouse.values import is_value, value_text
+from lyinghouse.values import is_value, known_text
 
 FEWEST_SECTORS = 16
 
@@ -36,7 +36,7 @@ class Keep:
         """The value is one more row, the last one."""
         if not is_value(value):
             raise BadValue(value)
-        text = value_text(value)
+        text = known_text(value)
         end = self._end + 1 + many_tails(len(text))
         if end > self._start + self._room():
             raise TooFull(self.sectors)
@@ -50,7 +50,7 @@ class Keep:
         """The rows are these values from now on, and no others."""
         if not (isinstance(values, tuple) and all([is_value(value) for value in values])):
             raise BadValues(values)
-        texts = [value_text(value) for value in values]
+        texts = [known_text(value) for value in values]
         if 1 + sum([1 + many_tails(len(text)) for text in texts]) > self._room():
             raise TooFull(self.sectors)
         start = self._room() - self._start
@@ -68,6 +68,14 @@ class Keep:
         self.rows = values
         self._start, self._end = start, at
         self._generation = self._latest = generation
+
+    def copy(self):
+        """A keep that stands alike, on a disc of its own."""
+        other = Keep(self.sectors)
+        other.rows, other.image, other.steps = self.rows, self.image, self.steps
+        other._start, other._end = self._start, self._end
+        other._generation, other._latest = self._generation, self._latest
+        return other
 
     def _room(self):
         """How many sectors an area has."""

@@ -4,11 +4,12 @@
 - To ("block", name, number) it answers ("block", seal), the seal of this block, or NO_BLOCK if it does not hold it.
 - To ("turn", counts) it answers ("turn", statement), the one that it keeps, if the desk has the turn, WAIT if it has
   to wait for it. If what the house keeps is somewhere below these counts, it answers as to NEWEST instead, and the
-  desk does not come to wait there.
+  desk does not come to wait there; so, too, if it keeps a later statement of this desk, which asked longer ago then.
 - To FREE it answers FREED: the desk is not among those who wait, or have the turn, any more.
 - To ("keep", statement, blocks) it answers KEPT if it keeps this statement now, or one that stands on it, and WAIT if
   another desk has the turn. If what it keeps goes another way, it answers as to NEWEST. The blocks are all those that
   the desk has made for this statement.
+- To all else it answers WAIT, and nothing changes.
 
 Statements and blocks are said as seals. No tuple here begins with a name, or with the names of desks: a desk may be
 called seal, and nobody must seem to make seals of others.
@@ -46,6 +47,14 @@ def is_statement(names, value):
     return counts[names.index(value[1])] > 0
 
 
+def is_block_seal(names, value):
+    """Whether any value is the seal of a block of one of the desks with these names."""
+    if not (is_seal(value) and value[1] in names and isinstance(value[2], tuple) and len(value[2]) == 3):
+        return False
+    word, number, _ = value[2]
+    return word == "block" and is_block((value[1], number))
+
+
 def base_told(names, word, answer):
     """The counts and the root that are told behind this word; None if they are not.
 
@@ -63,9 +72,34 @@ def base_told(names, word, answer):
 
 def block_told(block, answer):
     """The seal of the block with this name, if the answer tells it; None if it does not."""
-    if not (isinstance(answer, tuple) and len(answer) == 2 and answer[0] == ON_BLOCK and is_seal(answer[1])):
+    if not (isinstance(answer, tuple) and len(answer) == 2 and answer[0] == ON_BLOCK):
         return None
-    _, name, told = answer[1]
-    if not (isinstance(told, tuple) and len(told) == 3 and told[0] == "block"):
+    name, number = block
+    if not (is_block_seal((name,), answer[1]) and answer[1][2][1] == number):
         return None
-    return answer[1] if (name, told[1]) == block else None
+    return answer[1]
+
+
+def block_asked(message):
+    """The name of the block that the message asks for; None if it asks for none."""
+    if not (isinstance(message, tuple) and len(message) == 3 and message[0] == ON_BLOCK):
+        return None
+    block = message[1:]
+    return block if is_block(block) else None
+
+
+def turn_asked(names, message):
+    """The counts with which the message asks for a turn; None if it asks for none."""
+    if not (isinstance(message, tuple) and len(message) == 2 and message[0] == ON_TURN):
+        return None
+    return message[1] if are_counts(message[1], len(names)) else None
+
+
+def statement_said(names, name, message):
+    """The statement of this desk that the message says, and the seals of its blocks; None if it says none."""
+    if not (isinstance(message, tuple) and len(message) == 3 and message[0] == ON_KEEP):
+        return None
+    _, statement, seals = message
+    if not (is_statement(names, statement) and statement[1] == name and isinstance(seals, tuple)):
+        return None
+    return (statement, seals) if all([is_block_seal(names, seal) for seal in seals]) else None

@@ -16,6 +16,11 @@ def is_value(value):
 def value_text(value):
     """The one text of a value."""
     _check_value(value)
+    return known_text(value)
+
+
+def known_text(value):
+    """The text of what is known to be a value."""
     return _told(value, [])
 
 

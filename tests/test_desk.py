@@ -1,7 +1,7 @@
 import random
 import unittest
 
-from honest import HouseOfTests, does, work
+from honest import a_house, bag_of, does, let_wait, plain_of, statement_of, work
 from lyinghouse.desk import Desk, desk_again
 from lyinghouse.discs import done_steps, new_image
 from lyinghouse.errors import (
@@ -85,7 +85,7 @@ class Calls(unittest.TestCase):
 
     def test_meet(self):
         desk, other = desks()
-        house = HouseOfTests(NAMES)
+        house = a_house(NAMES)
         does(desk, house, ("make", "/a"))
         for odd in odd_values() + [(1,), (1, 0, 0), [1, 0], (2, 0), (True, 0), (1, -1), (1, 10 ** 9 + 1), ("1", 0), (1, None)]:
             self.stays(desk, BadCounts, odd, desk.meet, odd)
@@ -100,7 +100,7 @@ class Calls(unittest.TestCase):
 
     def test_a_cheated_desk(self):
         desk, _ = desks()
-        does(desk, HouseOfTests(NAMES), ("make", "/a"))
+        does(desk, a_house(NAMES), ("make", "/a"))
         desk.ask(("look", "/"))
         self.assertEqual(desk.meet((0, 3)), "parted")
         self.assertEqual((desk.doing, desk.rest(), desk.is_cheated), (None, None, True))
@@ -115,7 +115,7 @@ class Calls(unittest.TestCase):
 
     def test_pack(self):
         desk, _ = desks()
-        house = HouseOfTests(NAMES)
+        house = a_house(NAMES)
         for number in range(5):
             does(desk, house, ("write", "/x", str(number)))
         desk.ask(("read", "/x"))
@@ -128,7 +128,7 @@ class Calls(unittest.TestCase):
 
     def test_steps(self):
         desk, _ = desks()
-        house = HouseOfTests(NAMES)
+        house = a_house(NAMES)
         before = desk.image
         desk.ask(("write", "/x", "y" * 500))
         while desk.doing is not None:
@@ -183,7 +183,7 @@ class Again(unittest.TestCase):
 
     def test_rows_that_cannot_be(self):
         desk, _ = desks()
-        house = HouseOfTests(NAMES)
+        house = a_house(NAMES)
         does(desk, house, ("make", "/a"))
         row = keep_again(desk.image).rows[-1]
         made = row[7]
@@ -231,7 +231,7 @@ class Falls(unittest.TestCase):
 
     def test_a_day(self):
         ann, bob = desks(sectors=300)
-        house = HouseOfTests(NAMES)
+        house = a_house(NAMES)
         for deed in [("make", "/a"), ("write", "/a/x", "y" * 300), ("read", "/a/x"), ("make", "/a"), ("put", "/a/x", 299, "zz"), ("list", "/")]:
             self.cut(lambda desk: desk.ask(deed), ann, house)
             while ann.doing is not None:
@@ -244,7 +244,7 @@ class Falls(unittest.TestCase):
 
     def test_being_cheated(self):
         ann, bob = desks()
-        house = HouseOfTests(NAMES)
+        house = a_house(NAMES)
         does(ann, house, ("make", "/a"))
         other = house.copy()
         does(ann, house, ("make", "/b"))
@@ -262,7 +262,7 @@ class Falls(unittest.TestCase):
 
     def test_a_statement_is_said_again_just_as_it_was(self):
         ann, bob = desks()
-        house = HouseOfTests(NAMES)
+        house = a_house(NAMES)
         ann.ask(("write", "/x", "y" * 200))
         while ann.made is None:
             ann.hear(house.hear("ann", ann.rest()))
@@ -285,7 +285,7 @@ class Houses(unittest.TestCase):
 
     def setUp(self):
         self.ann, self.bob = desks()
-        self.old = HouseOfTests(NAMES)
+        self.old = a_house(NAMES)
         does(self.bob, self.old, ("make", "/b"))
         self.house = self.old.copy()
         does(self.ann, self.house, ("make", "/a"))
@@ -302,7 +302,7 @@ class Houses(unittest.TestCase):
 
     def test_two_worlds(self):
         """The example of section 11, at a house of these tests."""
-        house = HouseOfTests(NAMES)
+        house = a_house(NAMES)
         ann, bob = desks()
         self.assertEqual(does(ann, house, ("write", "/note", "hello")), ("done", ("done",)))
         self.assertEqual(does(bob, house, ("read", "/note")), ("done", ("text", "hello")))
@@ -317,8 +317,8 @@ class Houses(unittest.TestCase):
 
     def test_somewhere_below_its_own(self):
         for deed in (("look", "/"), ("make", "/c"), ("make", "/a")):
-            for house in (self.old, HouseOfTests(NAMES), self.old.copy()):
-                house.waiting = ("bob",)
+            for house in (self.old, a_house(NAMES), self.old.copy()):
+                let_wait(house, ("bob",))
                 desk = desk_again(self.ann.image, 40)
                 told = self.led(desk, house, deed)
                 self.assertEqual((told[-1], "wait" in told, desk.is_cheated), ("cheated", False, True))
@@ -332,13 +332,13 @@ class Houses(unittest.TestCase):
             for waiting in ((), ("bob",)):
                 desk = desk_again(self.ann.image, 40)
                 self.assertEqual(desk.meet((1, 2)), "behind")
-                self.house.waiting = waiting
+                let_wait(self.house, waiting)
                 self.assertEqual(self.led(desk, self.house, deed)[-1], "wait")
                 desk = desk_again(desk.image, 40)
                 for _ in range(4):
                     self.assertEqual(desk.hear(self.house.hear("ann", desk.rest()))[0], "wait")
                 self.assertEqual((self.house.waiting, desk.counts), (waiting, (1, 1)))
-        self.house.waiting = ()
+        let_wait(self.house, ())
         does(self.bob, self.house, ("make", "/more"))
         self.assertEqual(work(desk, self.house), ("done", ("done",)))
         self.assertEqual(desk.counts, (2, 2))
@@ -358,7 +358,7 @@ class Houses(unittest.TestCase):
                 self.assertEqual(work(desk, house)[0], "wait")
                 self.assertEqual(desk.counts, (1, 1))
                 other = house.copy()
-                other.waiting = ()
+                let_wait(other, ())
                 does(desk_again(self.bob.image, 40), other, ("make", "/more"))
                 self.assertEqual(work(desk, other), ("done", ("done",)))
                 self.assertEqual(desk.counts, (2, 2))
@@ -379,12 +379,12 @@ class Houses(unittest.TestCase):
         desk.ask(("make", "/q"))
         while desk.counts == (1, 1):
             desk.hear(self.house.hear("ann", desk.rest()))
-        for house in (self.old, HouseOfTests(NAMES)):
+        for house in (self.old, a_house(NAMES)):
             again = desk_again(desk.image, 40)
             self.assertEqual(work(again, house), ("cheated",))
             self.assertEqual((again.counts, again.made[0]), ((2, 1), 2))
         other = self.house.copy()
-        other.waiting = ()
+        let_wait(other, ())
         does(self.bob, other, ("make", "/r"))
         self.assertEqual(work(desk, other), ("cheated",))
 
@@ -392,7 +392,7 @@ class Houses(unittest.TestCase):
         """The own count is there, but what the desk goes by of one desk is exchanged for what another one has made."""
         names = ("ann", "bob", "cid")
         ann, bob, cid = [Desk(name, names, 40, 300) for name in names]
-        house = HouseOfTests(names)
+        house = a_house(names)
         does(ann, house, ("make", "/a"))
         other = house.copy()
         does(bob, house, ("make", "/b"))
@@ -405,7 +405,7 @@ class Houses(unittest.TestCase):
             if word == "turn":
                 while desk.rest()[0] != "turn":
                     desk.hear(house.hear("ann", desk.rest()))
-            self.assertEqual(desk.hear((word, other.statement)), ("cheated",))
+            self.assertEqual(desk.hear((word, statement_of(other))), ("cheated",))
             self.assertEqual(desk.counts, (1, 1, 0))
 
     def test_nobody_comes_to_wait_where_the_house_is_below(self):
@@ -428,12 +428,12 @@ class Houses(unittest.TestCase):
         while desk.counts == (1, 1):
             desk.hear(self.house.hear("ann", desk.rest()))
         message = desk.rest()
-        for answer in (("newest", self.house.statement), ("wait",), None, ("kept", 1), message, ("newest", 7)):
+        for answer in (("newest", statement_of(self.house)), ("wait",), None, ("kept", 1), message, ("newest", 7)):
             self.assertEqual(desk.hear(answer), ("wait", message))
         later = self.house.copy()
         later.hear("ann", message)
         does(self.bob, later, ("make", "/r"))
-        for answer in (("newest", message[1]), ("newest", later.statement), ("kept",)):
+        for answer in (("newest", message[1]), ("newest", statement_of(later)), ("kept",)):
             again = desk_again(desk.image, 40)
             self.assertEqual(again.hear(answer), ("done", ("done",)))
             self.assertEqual((again.counts, again.rest()), ((2, 1), None))
@@ -443,12 +443,10 @@ class Houses(unittest.TestCase):
         desk.ask(("list", "/"))
         desk.hear(self.house.hear("ann", desk.rest()))
         block = desk.rest()[1:]
-        for other in self.house.bag.blocks:
+        for other in bag_of(self.house).blocks:
             if other != block:
-                self.assertEqual(desk.hear(("block", self.house.bag.seal_of(other)))[0], "wait")
-                self.assertEqual(desk.held, 0)
-                desk.hear(self.house.hear("ann", desk.rest()))
-                self.assertEqual(desk.rest(), ("block", *block))
+                self.assertEqual(desk.hear(("block", bag_of(self.house).seal_of(other))), ("wait", ("block", *block)))
+                self.assertEqual((desk.held, desk.rest()), (0, ("block", *block)))
         self.assertEqual(work(desk, self.house), ("done", ("names", ("a", "b"))))
 
     def test_a_block_that_is_not_to_be_had(self):
@@ -487,10 +485,36 @@ class Houses(unittest.TestCase):
         self.assertEqual((house.waiting, bob.counts, bob.made[0]), ((), (2, 1), 1))
 
     def test_who_only_asks_waits_for_nobody(self):
-        self.house.waiting = ("ann",)
+        let_wait(self.house, ("ann",))
         for deed, answer in [(("list", "/"), ("names", ("a", "b"))), (("make", "/a"), ("no", "taken")), (("cut", "/q", 0), ("no", "missing"))]:
             self.assertEqual(does(self.bob, self.house, deed), ("done", answer))
         self.assertEqual((self.house.waiting, self.bob.made[0], self.bob.counts), (("ann",), 1, (1, 1)))
+
+    def test_blocks_that_are_lacking_again_and_again(self):
+        """Each time the house keeps another statement: so the desk never waits."""
+        house, bob = self.house, self.bob
+        does(self.ann, house, ("write", "/a/x", "0" * 1000))
+        bob.ask(("read", "/a/x"))
+        bob.hear(house.hear("bob", bob.rest()))
+        for number in range(5):
+            does(self.ann, house, ("write", "/a/x", str(number) * 1000))
+            house.pack()
+            told = [bob.hear(house.hear("bob", bob.rest())) for _ in range(2)]
+            self.assertEqual([row[0] for row in told], ["say", "say"])
+        self.assertEqual(work(bob, house), ("done", ("text", "4" * 1000)))
+
+    def test_answers_that_are_given_twice(self):
+        """What answers something else that was said is of no use, and does no harm."""
+        for deed in (("list", "/"), ("make", "/q"), ("make", "/a"), ("write", "/a/x", "y" * 300)):
+            desk, house, laps = desk_again(self.ann.image, 40), self.house.copy(), 0
+            desk.ask(deed)
+            while desk.doing is not None:
+                answer = house.hear("ann", desk.rest())
+                told = desk.hear(answer)
+                if told[0] == "say":
+                    self.assertEqual(desk.hear(answer), ("wait", told[1]))
+                laps += 1
+            self.assertEqual((told[0], laps < 20), ("done", True))
 
     def test_a_packed_house(self):
         """A desk that was amid a deed on an elder tree begins anew."""
@@ -508,7 +532,7 @@ class Room(unittest.TestCase):
 
     def test_blocks_at_hand(self):
         names = ("ann", "bob")
-        house = HouseOfTests(names)
+        house = a_house(names)
         ann, bob = Desk("ann", names, 10000, 2000), Desk("bob", names, 40, 2000)
         for number in range(12):
             does(ann, house, ("write", f"/{number}", str(number) * 1000))
@@ -521,7 +545,7 @@ class Room(unittest.TestCase):
 
     def test_too_full_to_ask(self):
         desk, _ = desks(sectors=200)
-        house = HouseOfTests(NAMES)
+        house = a_house(NAMES)
         self.assertEqual(does(desk, house, ("write", "/x", "y" * 1600)), ("done", ("done",)))
         path = "/abcdefghijkl" * 199
         before = seen(desk)
@@ -534,7 +558,7 @@ class Room(unittest.TestCase):
 
     def test_too_full_to_state(self):
         desk, _ = desks(sectors=200)
-        house = HouseOfTests(NAMES)
+        house = a_house(NAMES)
         desk.ask(("write", "/x", "y" * 2000))
         error = None
         while error is None:
@@ -550,7 +574,7 @@ class Room(unittest.TestCase):
     def test_2000_sectors_are_enough(self):
         """Trees of 60 entries and 4,000 signs, deeds of up to 3,000 signs."""
         desk, _ = desks(sectors=2000)
-        house = HouseOfTests(NAMES)
+        house = a_house(NAMES)
         deep = "/" + "/".join(["abc"] * 50)
         for depth in range(1, 51):
             self.assertEqual(does(desk, house, ("make", "/" + "/".join(["abc"] * depth))), ("done", ("done",)))
@@ -569,7 +593,7 @@ class AsThePlainTree(unittest.TestCase):
     def test_one_desk_after_the_other(self):
         chance = random.Random(95)
         ann, bob = desks(room=60, sectors=20000)
-        house, deeds = HouseOfTests(NAMES), ()
+        house, deeds = a_house(NAMES), ()
         for _ in range(150):
             deed = some_deed(chance)
             tree = played(deeds)[1]
@@ -578,7 +602,7 @@ class AsThePlainTree(unittest.TestCase):
             self.assertEqual(does(desk, house, deed), ("done", tree.done(deed)))
             deeds += (deed,) if tree.text != before else ()
             self.assertEqual((sum(desk.counts), desk.counts), (len(deeds), house.counts))
-        self.assertEqual(house.plain(), tree)
+        self.assertEqual(plain_of(house), tree)
 
 
 if __name__ == "__main__":

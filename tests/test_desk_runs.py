@@ -3,11 +3,12 @@
 import random
 import unittest
 
-from honest import HouseOfTests
+from honest import a_house
+from lyinghouse.house import house_again
 from lyinghouse.messages import FREED, KEPT, WAIT
-from lyinghouse.plain import changes
 from lyinghouse.rows import sides
-from lyinghouse.values import all_seals, value_text
+from lyinghouse.values import all_seals, is_seal, is_value, seals_in, value_text
+from lyinghouse.views import judged_tellings
 from samples import odd_values
 from test_plain_model import some_deed
 from worlds import Honest, World
@@ -30,12 +31,15 @@ class AtOneHouse(unittest.TestCase):
 
     def run_on(self, world, many, falls, deeds=small_deed, packs=0.02, meets=0.03):
         chance = world.chance
-        told = []
+        told, alone = [], 0
         for _ in range(many):
             watched = chance.choice(world.desks)
             kind = chance.random()
-            if kind < packs:
-                chance.choice((world.house.pack, lambda: watched.call("pack", falls=falls)))()
+            if kind < packs / 2:
+                watched.call("pack", falls=falls)
+            elif kind < packs:
+                world.call_house("pack", falls=falls)
+                alone += world.ends_alone(watched)
             elif kind < packs + meets:
                 other = chance.choice([other for other in world.desks if other.name != watched.name])
                 counts = other.desk.counts
@@ -44,6 +48,8 @@ class AtOneHouse(unittest.TestCase):
                 self.assertFalse(watched.desk.is_cheated)
             else:
                 told.append(world.turn(watched, falls, deeds))
+                alone += chance.random() < 0.02 and world.ends_alone(watched)
+        self.assertGreater(alone, 0)
         return told
 
     def finish(self, world):
@@ -90,21 +96,71 @@ class AtOneHouse(unittest.TestCase):
             self.assertLessEqual(len(told), 3000)
 
 
+def bent(value, seals, chance):
+    """The value with some of its parts exchanged: seals for seals that were said."""
+    if is_seal(value):
+        return value if chance.random() < 0.4 else chance.choice(seals)
+    if isinstance(value, tuple):
+        parts = tuple(bent(part, seals, chance) for part in value)
+        return chance.choice((parts, parts, parts, parts[1:], (*parts, None), (parts,)))
+    if isinstance(value, int):
+        return chance.choice((value, value + 1, 0, None))
+    return chance.choice((value, value, value, "newest", "turn"))
+
+
 class Liar:
-    """A house that answers what it likes, within the rule of the world."""
+    """Houses that are honest by themselves, and somebody between them and the desks who is not.
+
+    He copies houses and puts elder copies in their place, leads desks to and fro, and answers what he likes, within
+    the rule of the world.
+    """
 
     def __init__(self, world):
         self.world = world
-        self.houses = [HouseOfTests(world.names)]
+        self.houses = [a_house(world.names)]
+        self.elder = []
+        self.answers = []
 
     def answer(self, name, message):
         chance = self.world.chance
-        seals = list(self.world.said)
+        self.play(chance)
+        house = self.houses[len(name) % len(self.houses)] if chance.random() < 0.7 else chance.choice(self.houses)
+        for _ in range(chance.choice((1, 1, 1, 2))):
+            answer = house.hear(name, message)
+        if chance.random() < 0.02:
+            house.hear(chance.choice(self.world.names), message)
+        self.answers.append(answer)
         kind = chance.random()
-        if kind < 0.06 and len(self.houses) < 6:
-            self.houses.append(chance.choice(self.houses).copy())
-        if kind < 0.75:
-            return self.honest(chance.choice(self.houses), name, message)
+        if kind < 0.8:
+            return answer
+        if kind < 0.85:
+            return chance.choice(self.answers)
+        if kind < 0.9:
+            return self.bent(answer)
+        return self.lie(message)
+
+    def play(self, chance):
+        """What the houses do not know of: they are copied, put back, packed, and fall."""
+        kind, place = chance.random(), chance.randrange(len(self.houses))
+        if kind < 0.04 and len(self.houses) < 5:
+            self.houses.append(self.houses[place].copy())
+        elif kind < 0.08:
+            self.elder.append(self.houses[place].copy())
+        elif kind < 0.1 and self.elder:
+            self.houses[place] = chance.choice(self.elder).copy()
+        elif kind < 0.13:
+            self.houses[place].pack()
+        elif kind < 0.14:
+            self.houses[place] = house_again(self.houses[place].image)
+
+    def bent(self, answer):
+        seals = list(self.world.said)
+        told = bent(answer, seals or [None], self.world.chance)
+        return told if is_value(told) and all(seal in self.world.said for seal in seals_in(told)) else answer
+
+    def lie(self, message):
+        chance = self.world.chance
+        seals = list(self.world.said)
         seal = chance.choice(seals) if seals else None
         # Statements of long ago are what a lie is mostly made of.
         stated = [other for other in seals if other[2][0] == "statement"]
@@ -112,13 +168,6 @@ class Liar:
         return chance.choice((
             ("newest", old), ("turn", old), ("newest", old), ("turn", old), ("newest", seal), ("turn", seal), ("block", seal), ("newest", None), ("turn", None), KEPT, FREED, WAIT, None, message, (seal,), seal,
             ("newest", seal, 1), ("newest", ("statement", (1, 0), ("look", "/"), ("ann", 0))), ("block", None), 7, "newest", (), ("newest",)))
-
-    def honest(self, house, name, message):
-        """What this house answers; nothing that it could not have, if somebody lied to the desk before."""
-        try:
-            return house.hear(name, message)
-        except AssertionError:
-            return WAIT
 
 
 class AtHousesThatLie(unittest.TestCase):
@@ -139,10 +188,16 @@ class AtHousesThatLie(unittest.TestCase):
             elif watched.desk.doing is None:
                 watched.ask(small_deed(chance), falls)
             else:
-                told = watched.hears(liar.answer(watched.name, watched.rest()), falls)
+                answer = liar.answer(watched.name, watched.rest())
+                told = watched.hears(answer, falls)
+                if chance.random() < 0.05 and watched.desk.doing is not None:
+                    told = watched.hears(answer, falls)
                 done += told is not None and told[0] == "done"
                 cheated += watched.desk.is_cheated
             world.check_all()
+        told = judged_tellings(world.names, tuple(watched.tellings() for watched in world.desks))
+        counts = [watched.desk.counts for watched in world.desks]
+        self.assertEqual(told[0], "parted" if any(sides(one, other) == "parted" for one in counts for other in counts) else "one")
         return done, cheated
 
     def test_the_main_promise(self):

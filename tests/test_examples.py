@@ -4,6 +4,7 @@ import doctest
 import pathlib
 import unittest
 
+MODULES = ["desk", "files", "house", "keeps", "maps", "mend", "merge", "plain", "rows", "trees", "values", "views"]
 FOLDER = pathlib.Path(__file__).resolve().parent / "examples"
 
 
@@ -11,7 +12,7 @@ class Examples(unittest.TestCase):
 
     def test_each_file(self):
         files = sorted(FOLDER.glob("*.txt"))
-        self.assertEqual([file.name for file in files], ["files.txt", "keeps.txt", "maps.txt", "plain.txt", "rows.txt", "trees.txt", "values.txt"])
+        self.assertEqual([file.stem for file in files], MODULES)
         for file in files:
             failed, tried = doctest.testfile(str(file), module_relative=False)
             self.assertEqual(failed, 0, file.name)

@@ -44,6 +44,18 @@ FUNCTIONS = {
         "made_on": ["names", "past", "name", "counts", "deed"], "rows_told": ["names", "past", "rows"],
     },
     "desk": {"desk_again": ["image", "room"]},
+    "house": {"house_again": ["image"]},
+    "mend": {
+        "needs": ["bag", "root", "deed"], "lacks": ["bag", "root"], "saved_paths": ["bag", "root"], "lost_paths": ["bag", "root"],
+        "mended": ["bag", "name", "root"], "mended_by": ["bag", "name", "root", "elders"],
+    },
+    "merge": {"unlike": ["one", "other"], "merged": ["base", "one", "other"]},
+    "views": {
+        "are_tellings": ["names", "value"], "judged_tellings": ["names", "tellings"], "past_of": ["names", "tellings"],
+        "tree_told": ["names", "tellings", "counts"], "worlds_of": ["names", "tellings"],
+        "first_apart": ["names", "tellings", "one", "other"], "house_day": ["names", "tellings"],
+        "is_house_day": ["names", "tellings", "value"],
+    },
 }
 # Of each class: its parameters, its methods with theirs, and an object of it.
 CLASSES = {
@@ -56,10 +68,12 @@ CLASSES = {
     "desk.Desk": (["name", "names", "room", "sectors"], {
         "ask": ["deed"], "hear": ["answer"], "rest": [], "meet": ["counts"], "pack": [],
     }, ("ann", ("ann", "bob"), 40, 200)),
+    "house.House": (["names", "sectors"], {"hear": ["name", "message"], "copy": [], "pack": []}, (("ann", "bob"), 1000)),
 }
 PROPERTIES = {
     "plain.PlainTree": ["text"], "bag.Bag": ["blocks"], "keeps.Keep": ["sectors", "rows", "image", "steps"],
     "desk.Desk": ["name", "names", "room", "counts", "doing", "made", "is_cheated", "held", "image", "steps"],
+    "house.House": ["names", "counts", "waiting", "image", "steps"],
 }
 PACKAGE = pathlib.Path(__file__).resolve().parent.parent / "lyinghouse"
 
