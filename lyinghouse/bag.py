@@ -2,7 +2,7 @@
 
 from lyinghouse.checks import check_name, check_number
 from lyinghouse.errors import BadSeal, BadValue, NoBlock, OtherBody
-from lyinghouse.kinds import GREATEST_NUMBER, is_block, is_integer
+from lyinghouse.kinds import GREATEST_NUMBER, is_integer
 from lyinghouse.values import is_seal, is_value
 
 
@@ -17,7 +17,7 @@ class Bag:
         return len(self._bodies)
 
     def __contains__(self, value):
-        return is_block(value) and value in self._bodies
+        return _is_pair(value) and value in self._bodies
 
     @property
     def blocks(self):
@@ -80,8 +80,15 @@ class Bag:
         self._numbers[name] = max(self._numbers.get(name, 0), number + 1)
 
     def _check_held(self, block):
-        if not (is_block(block) and block in self._bodies):
+        if not (_is_pair(block) and block in self._bodies):
             raise NoBlock(block)
+
+
+def _is_pair(value):
+    """Whether any value can be looked for among names of blocks: blocks are looked for all the time."""
+    if not (isinstance(value, tuple) and len(value) == 2 and isinstance(value[0], str)):
+        return False
+    return isinstance(value[1], int) and not isinstance(value[1], bool)
 
 
 def _sealed(block, body):

@@ -13,7 +13,10 @@ def is_image(value):
     """Whether any value is the image of a disc."""
     if not (isinstance(value, tuple) and 1 <= len(value) <= MOST_SECTORS):
         return False
-    return all([_is_sector_text(text) for text in value])
+    if not all([isinstance(text, str) and len(text) == SECTOR for text in value]):
+        return False
+    # All at once: an image is looked at behind each fall, and has many sectors.
+    return is_clean("".join(value))
 
 
 def new_image(sectors):
@@ -31,15 +34,20 @@ def done_steps(image, steps):
 def open_writes(image, steps):
     """The numbers of the writes behind the last fence."""
     _check_steps(image, steps)
-    return tuple(_open_numbers(steps))
+    return tuple(open_numbers(steps))
 
 
 def left_by(image, steps, choices):
     """The image that is left if power is lost behind these steps, so many signs of each open write being there."""
     _check_steps(image, steps)
-    numbers = _open_numbers(steps)
-    if not _are_choices(choices, len(numbers)):
+    if not _are_choices(choices, len(open_numbers(steps))):
         raise BadChoices(choices)
+    return left_behind(image, steps, choices)
+
+
+def left_behind(image, steps, choices):
+    """The same, for what are known to be steps for this image, and such choices."""
+    numbers = open_numbers(steps)
     first = numbers[0] if len(numbers) > 0 else len(steps)
     sectors = list(written(image, steps[:first]))
     for number, many in zip(numbers, choices):
@@ -87,7 +95,8 @@ def _is_step(value, sectors):
     return value[0] == "write" and is_integer(value[1], 0, sectors - 1) and _is_sector_text(value[2])
 
 
-def _open_numbers(steps):
+def open_numbers(steps):
+    """The numbers of the writes behind the last fence, for what are known to be steps."""
     numbers = []
     for number, step in enumerate(steps):
         if step == FENCE:

@@ -9,7 +9,9 @@ last one written, that makes one more row count, or other rows.
 from lyinghouse.checks import check_number
 from lyinghouse.discs import FENCE, MOST_SECTORS, is_image, new_image, written
 from lyinghouse.errors import BadImage, BadValue, BadValues, TooFull
-from lyinghouse.sectors import OF_AREA, OF_VALUE, area_head, generation_in, many_tails, tails_of, value_at, value_head
+from lyinghouse.sectors import (
+    OF_AREA, OF_VALUE, area_head, generation_in, latest_in, many_tails, tails_of, value_at, value_head,
+)
 from lyinghouse.values import is_value, known_text
 
 FEWEST_SECTORS = 16
@@ -97,7 +99,7 @@ def keep_again(image):
     generations = [generation_in(image[start], OF_AREA) for start in starts]
     keep._generation = max(0, generations[0], generations[1])
     keep._start = half if generations[1] > generations[0] else 0
-    keep._latest = max([0] + [generation_in(sector, kind) for sector in image for kind in (OF_AREA, OF_VALUE)])
+    keep._latest = latest_in(image)
     keep.rows, keep._end = _rows_from(image, keep._start, keep._start + half, keep._generation)
     return keep
 

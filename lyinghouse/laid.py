@@ -24,6 +24,9 @@ class LaidThings:
         self._bag = bag
         self._body = body
         self._things, self._unused, self._many = body
+        # What was looked up already: a deed goes along the same entries several times.
+        self._known = {}
+        self._entered = {}
 
     def is_folder(self, thing):
         """Whether it is a folder, and no file."""
@@ -31,8 +34,10 @@ class LaidThings:
 
     def inside(self, folder, name):
         """The thing of this entry of the folder; None if it has no such entry."""
-        row = row_in(self._bag, self._entries(folder), name)
-        return None if row is None else row[1]
+        if (folder, name) not in self._entered:
+            row = row_in(self._bag, self._entries(folder), name)
+            self._entered[(folder, name)] = None if row is None else row[1]
+        return self._entered[(folder, name)]
 
     def many_entries(self):
         """How many entries there are in all folders."""
@@ -85,6 +90,7 @@ class LaidThings:
         self._many -= 1
         if self.is_folder(thing) or self.many_links(thing) == 1:
             self._things = drop_in(self._bag, self._things, thing)
+            self._known = {}
         else:
             self._tell(thing, (FILE, self._told(thing)[1], self.many_links(thing) - 1))
 
@@ -110,10 +116,13 @@ class LaidThings:
         return None if body == self._body else settled(self._bag, name, Draft(body))
 
     def _told(self, thing):
-        return row_in(self._bag, self._things, thing)[1]
+        if thing not in self._known:
+            self._known[thing] = row_in(self._bag, self._things, thing)[1]
+        return self._known[thing]
 
     def _tell(self, thing, told):
         self._things = put_in(self._bag, self._things, thing, told)
+        self._known[thing] = told
 
     def _entries(self, folder):
         return self._told(folder)[1]
@@ -122,9 +131,11 @@ class LaidThings:
         return text_in(self._bag, self._told(file)[1])
 
     def _put_entry(self, folder, name, thing):
+        self._entered = {}
         self._tell(folder, (FOLDER, put_in(self._bag, self._entries(folder), name, thing)))
 
     def _drop_entry(self, folder, name):
+        self._entered = {}
         self._tell(folder, (FOLDER, drop_in(self._bag, self._entries(folder), name)))
 
     def _new_thing(self, told):

@@ -17,7 +17,7 @@ called seal, and nobody must seem to make seals of others.
 
 from lyinghouse.kinds import are_counts, is_block
 from lyinghouse.plain import is_deed
-from lyinghouse.values import is_seal
+from lyinghouse.values import has_seal_form
 
 NEWEST = ("newest",)
 FREE = ("free",)
@@ -38,8 +38,8 @@ def statement_seal(name, counts, deed, root):
 
 
 def is_statement(names, value):
-    """Whether any value is a statement of one of the desks with these names."""
-    if not (is_seal(value) and value[1] in names and isinstance(value[2], tuple) and len(value[2]) == 4):
+    """Whether what is known to be a value is a statement of one of the desks with these names."""
+    if not (has_seal_form(value) and value[1] in names and isinstance(value[2], tuple) and len(value[2]) == 4):
         return False
     word, counts, deed, root = value[2]
     if not (word == "statement" and are_counts(counts, len(names)) and is_deed(deed) and is_block(root)):
@@ -48,8 +48,8 @@ def is_statement(names, value):
 
 
 def is_block_seal(names, value):
-    """Whether any value is the seal of a block of one of the desks with these names."""
-    if not (is_seal(value) and value[1] in names and isinstance(value[2], tuple) and len(value[2]) == 3):
+    """Whether what is known to be a value is the seal of a block of one of the desks with these names."""
+    if not (has_seal_form(value) and value[1] in names and isinstance(value[2], tuple) and len(value[2]) == 3):
         return False
     word, number, _ = value[2]
     return word == "block" and is_block((value[1], number))

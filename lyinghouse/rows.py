@@ -128,6 +128,11 @@ def with_one_more(counts, at):
     return (*counts[:at], counts[at] + 1, *counts[at + 1:])
 
 
+def with_one_less(counts, at):
+    """The counts with one less at this place."""
+    return (*counts[:at], counts[at] - 1, *counts[at + 1:])
+
+
 def no_counts(names):
     """The counts that are all 0."""
     return (0,) * len(names)
@@ -173,8 +178,7 @@ def _is_made_thing(names, value):
 def _ground(names, thing):
     """The counts of the row on which the made thing stands."""
     name, _, counts, _ = thing
-    at = names.index(name)
-    return (*counts[:at], counts[at] - 1, *counts[at + 1:])
+    return with_one_less(counts, names.index(name))
 
 
 def _by_counts(past):

@@ -55,6 +55,12 @@ def generation_in(sector, kind):
     return int(figures) if is_head and _are_figures(figures) else -1
 
 
+def latest_in(image):
+    """The latest generation that any head in the image tells; 0 if there is none."""
+    heads = [sector for sector in image if sector[0] in STAMPS]
+    return max([0] + [generation_in(sector, kind) for sector in heads for kind in (OF_AREA, OF_VALUE)])
+
+
 def value_at(sectors, at, end):
     """The value whose head stands at this place, and the place behind it; None if none is there ahead of the end."""
     figures = sectors[at][AT_LENGTH:AT_SIGNS]

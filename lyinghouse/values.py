@@ -6,6 +6,8 @@ from lyinghouse.kinds import GREATEST_NUMBER, is_clean, is_integer, is_name
 LONGEST = 100000
 DEEPEST = 30
 FIGURES = "0123456789"
+# How many figures the greatest number has.
+MOST_FIGURES = 19
 
 
 def is_value(value):
@@ -51,7 +53,7 @@ def first_values(text):
 
 def is_seal(value):
     """Whether any value is a seal."""
-    return is_value(value) and _has_seal_form(value)
+    return is_value(value) and has_seal_form(value)
 
 
 def seals_in(value):
@@ -98,13 +100,13 @@ def is_value_within(value, room):
     return value is None or is_integer(value, -GREATEST_NUMBER, GREATEST_NUMBER)
 
 
-def _has_seal_form(value):
+def has_seal_form(value):
     """Whether what is known to be a value is a seal."""
     return isinstance(value, tuple) and len(value) == 3 and value[0] == "seal" and is_name(value[1])
 
 
 def _outermost(value):
-    if _has_seal_form(value):
+    if has_seal_form(value):
         return [value]
     if not isinstance(value, tuple):
         return []
@@ -114,7 +116,7 @@ def _outermost(value):
 def _every_seal(value):
     if not isinstance(value, tuple):
         return []
-    own = [value] if _has_seal_form(value) else []
+    own = [value] if has_seal_form(value) else []
     return own + [seal for part in value for seal in _every_seal(part)]
 
 
@@ -128,7 +130,7 @@ def _told(value, seals):
     if isinstance(value, str):
         return f"s{len(value)}:{value}"
     text = "(" + "".join([_told(part, seals) for part in value]) + ")"
-    if _has_seal_form(value):
+    if has_seal_form(value):
         seals.append(text)
     return text
 
@@ -183,9 +185,11 @@ def _tuple_at(text, at, room):
 def _number_at(text, at, most):
     """The number up to most that is written at this place, and the place behind its figures."""
     end = at
-    # A figure that cannot stand ends the number: so no number becomes longer than most is.
-    while end < len(text) and text[end] in FIGURES and _is_number(text[at:end + 1], most):
+    while end < len(text) and end - at < MOST_FIGURES and text[end] in FIGURES:
         end += 1
+    # A figure that cannot stand ends the number: it is too great, or stands behind a 0 at the beginning.
+    while end > at and not _is_number(text[at:end], most):
+        end -= 1
     if end == at:
         raise BadText(at)
     return int(text[at:end]), end

@@ -7,7 +7,7 @@ and its number.
 from lyinghouse.errors import BadCounts, BadNames, BadTellings, Never, NoDesk, NoRow
 from lyinghouse.kinds import are_counts, is_integer, is_names
 from lyinghouse.plain import PlainTree, is_deed
-from lyinghouse.rows import no_counts, sides_of
+from lyinghouse.rows import no_counts, sides_of, with_one_less
 from lyinghouse.values import is_value
 
 MOST_EVENTS = 400
@@ -43,11 +43,8 @@ class Heard:
 
     def ground_of(self, name, number):
         """The counts of the row on which the event was."""
-        own = self.names.index(name)
         counts = self.counts_at(name, number)
-        if not self.has_made(name, number):
-            return counts
-        return (*counts[:own], counts[own] - 1, *counts[own + 1:])
+        return with_one_less(counts, self.names.index(name)) if self.has_made(name, number) else counts
 
     def changed(self, name, number):
         """The tree of the ground of the event with the event's deed done."""

@@ -4,7 +4,9 @@ import doctest
 import pathlib
 import unittest
 
-MODULES = ["desk", "files", "house", "keeps", "maps", "mend", "merge", "plain", "rows", "trees", "values", "views"]
+MODULES = [
+    "days", "desk", "files", "house", "keeps", "known", "lesser", "maps", "mend", "merge", "plain", "rows", "shell", "trees", "values", "views",
+]
 FOLDER = pathlib.Path(__file__).resolve().parent / "examples"
 
 

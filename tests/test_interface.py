@@ -56,6 +56,17 @@ FUNCTIONS = {
         "first_apart": ["names", "tellings", "one", "other"], "house_day": ["names", "tellings"],
         "is_house_day": ["names", "tellings", "value"],
     },
+    "known": {
+        "heard_of": ["names", "events", "name"], "first_lie": ["names", "events"], "knowing": ["names", "events"],
+        "why_known": ["names", "events", "name"], "shows_why": ["names", "events", "name", "value"],
+        "fewest_meetings": ["names", "events"], "shows_fewest": ["names", "events", "value"],
+    },
+    "lesser": {
+        "run_of": ["rule", "is_honest", "events"], "least_wrong": ["rule"], "shows_least_wrong": ["rule", "value"],
+        "wrong_words": ["rule"],
+    },
+    "shell": {"typed": ["shell", "tree", "text"]},
+    "days": {"day_report": ["text"], "plain_day": ["text"]},
 }
 # Of each class: its parameters, its methods with theirs, and an object of it.
 CLASSES = {
@@ -69,11 +80,14 @@ CLASSES = {
         "ask": ["deed"], "hear": ["answer"], "rest": [], "meet": ["counts"], "pack": [],
     }, ("ann", ("ann", "bob"), 40, 200)),
     "house.House": (["names", "sectors"], {"hear": ["name", "message"], "copy": [], "pack": []}, (("ann", "bob"), 1000)),
+    "shell.Shell": ([], {"line": ["text"], "hear": ["answer"], "copy": []}, ()),
+    "days.Day": (["text"], {"go_on": [], "counts_of": ["name"], "tree_of": ["name"]}, ("desks ann bob",)),
 }
 PROPERTIES = {
     "plain.PlainTree": ["text"], "bag.Bag": ["blocks"], "keeps.Keep": ["sectors", "rows", "image", "steps"],
     "desk.Desk": ["name", "names", "room", "counts", "doing", "made", "is_cheated", "held", "image", "steps"],
     "house.House": ["names", "counts", "waiting", "image", "steps"],
+    "shell.Shell": ["place", "wants"], "days.Day": ["text", "at", "names", "houses"],
 }
 PACKAGE = pathlib.Path(__file__).resolve().parent.parent / "lyinghouse"
 
