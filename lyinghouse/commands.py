@@ -5,8 +5,8 @@ from lyinghouse.kinds import is_clean, number_in
 from lyinghouse.plain import MOST_PARTS, is_path, parts_of, path_of
 
 MOST_IN_LINE = 2500
-# Of each command: how many words there are at least and at most, the first one counted, how many of them tell paths at
-# most, and the deed that it wants first; None if it wants none.
+# Of each command: how many words there are at least, and at most (None: as many as may be), the first one counted; how
+# many of them tell paths at most; and the deed that it wants first, None if it wants none.
 COMMANDS = {
     "pwd": (1, 1, 0, None),
     "cd": (2, 2, 1, "look"),
@@ -16,8 +16,8 @@ COMMANDS = {
     "rm": (2, 2, 1, "remove"),
     "mv": (3, 3, 2, "move"),
     "ln": (3, 3, 2, "link"),
-    "write": (2, MOST_IN_LINE, 1, "write"),
-    "add": (2, MOST_IN_LINE, 1, "look"),
+    "write": (2, None, 1, "write"),
+    "add": (2, None, 1, "look"),
     "cut": (3, 3, 1, "cut"),
     "cp": (3, 3, 2, "read"),
     "stat": (2, 2, 1, "look"),
@@ -60,7 +60,7 @@ def order_in(place, line):
         order.why = "unknown"
         return order
     fewest, most, many, _ = COMMANDS[words[0]]
-    if not fewest <= len(words) <= most:
+    if len(words) < fewest or (most is not None and len(words) > most):
         order.why = "words"
         return order
     # Without a word for it, the place is the path.

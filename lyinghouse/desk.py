@@ -10,7 +10,7 @@ from lyinghouse.errors import (
 from lyinghouse.keeps import Keep, keep_again
 from lyinghouse.kinds import are_counts, is_names
 from lyinghouse.messages import (
-    FREE, FREED, KEPT, NEWEST, NO_BLOCK, ON_BLOCK, ON_FREE, ON_KEEP, ON_NEWEST, ON_TURN, WAIT, base_told, block_told,
+    FREED, KEPT, NEWEST, NO_BLOCK, ON_BLOCK, ON_FREE, ON_KEEP, ON_NEWEST, ON_TURN, WAIT, base_told, block_told,
 )
 from lyinghouse.plain import is_deed
 from lyinghouse.rows import greater_counts, sides_of, with_one_more
@@ -241,7 +241,7 @@ class Desk:
             return self._answered(base, answer)
         if has_turn:
             return self._state(counts, new, trial)
-        message = (ON_TURN, greater_counts(self.counts, self._standing.floor))
+        message = (ON_TURN, greater_counts(self.counts, self._standing.floor), self._standing.turn)
         return self._say(Errand(ON_TURN, message, True), base)
 
     def _fetch(self, base, has_turn, block):
@@ -254,7 +254,11 @@ class Desk:
         """The deed leaves the tree as it is: nobody has to wait for this desk any more."""
         if not self._errand.may_wait:
             return self._finish(base[0], answer)
-        errand = Errand(ON_FREE, FREE, True)
+        # It lies on the disc ahead of being said: behind a fall the desk may have to ask for a turn again.
+        standing = self._standing.copy()
+        standing.turn = standing.turn + 1
+        self._write(standing)
+        errand = Errand(ON_FREE, (ON_FREE, standing.turn), True)
         errand.told = answer
         return self._say(errand, base)
 

@@ -6,11 +6,12 @@ from lyinghouse.errors import BadImage, BadNames, BadValue, NoBlock, NoDesk, Too
 from lyinghouse.keeps import Keep, keep_again
 from lyinghouse.kinds import is_names
 from lyinghouse.messages import (
-    FREE, FREED, KEPT, NEWEST, NO_BLOCK, ON_BLOCK, ON_NEWEST, ON_TURN, WAIT, block_asked, statement_said, turn_asked,
+    FREED, KEPT, NEWEST, NO_BLOCK, ON_BLOCK, ON_NEWEST, ON_TURN, WAIT, block_asked, statement_said, turn_asked,
+    turn_freed,
 )
 from lyinghouse.rows import sides_of, with_one_more
 from lyinghouse.stock import (
-    Stock, behind_row, first_row, packed_stock, rows_of, statement_row, stock_in, waiting_row,
+    Stock, asking_row, behind_row, first_row, freeing_row, packed_stock, rows_of, statement_row, stock_in,
 )
 from lyinghouse.trees import tree_blocks
 from lyinghouse.values import all_seals, is_value
@@ -52,7 +53,7 @@ class House:
         """The disc is laid anew, with what the house needs alone, if there is room for that."""
         self._did = ()
         try:
-            self._lay_anew(self._stock)
+            self._pack_as(self._stock)
         except TooFull:
             self._did = ()
         self.steps = self._did
@@ -67,7 +68,7 @@ class House:
     def _show(self, stock):
         self._stock = stock
         self.counts = stock.newest_counts()
-        self.waiting = stock.waiting
+        self.waiting = stock.names_waiting()
         self.image = self._keep.image
 
     def _change(self, row):
@@ -76,12 +77,12 @@ class House:
         try:
             self._keep.add(row)
         except TooFull:
-            self._lay_anew(stock)
+            self._pack_as(stock)
             return
         self._did = self._keep.steps
         self._show(stock)
 
-    def _lay_anew(self, stock):
+    def _pack_as(self, stock):
         packed = packed_stock(stock)
         self._keep.pack(rows_of(packed))
         self._did = self._keep.steps
@@ -92,36 +93,40 @@ class House:
             return WAIT
         if message == NEWEST:
             return self._newest()
-        if message == FREE:
-            return self._set_free(name)
+        freed = turn_freed(message)
+        if freed is not None:
+            return self._set_free(name, freed)
         block = block_asked(message)
         if block is not None:
             return self._give(block)
-        counts = turn_asked(self.names, message)
-        if counts is not None:
-            return self._let_wait(name, counts)
+        asked = turn_asked(self.names, message)
+        if asked is not None:
+            return self._let_wait(name, asked)
         said = statement_said(self.names, name, message)
         return WAIT if said is None else self._take(name, said)
 
     def _newest(self):
         return ON_NEWEST, self._stock.newest
 
-    def _set_free(self, name):
-        if name in self.waiting:
-            self._change(waiting_row(self._stock.without(name)))
+    def _set_free(self, name, turn):
+        if turn > self._stock.over_for(name):
+            self._change(freeing_row(self._stock, name, turn))
         return FREED
 
     def _give(self, block):
         bag = self._stock.bag
         return (ON_BLOCK, bag.seal_of(block)) if block in bag else NO_BLOCK
 
-    def _let_wait(self, name, counts):
-        """The desk comes to wait for the turn, if the house has all that the desk knows of, and no more of its own."""
+    def _let_wait(self, name, asked):
+        """The desk comes to wait for the turn, if the house has all that the desk knows of, and this is not over."""
+        counts, turn = asked
         own = self.names.index(name)
-        if sides_of(self.counts, counts) not in ("alike", "ahead") or self.counts[own] != counts[own]:
+        has_all = sides_of(self.counts, counts) in ("alike", "ahead")
+        waits = self._stock.asked_by(name)
+        if not has_all or self.counts[own] > counts[own] or turn < max(self._stock.over_for(name), waits or 0):
             return self._newest()
-        if name not in self.waiting:
-            self._change(waiting_row((*self.waiting, name)))
+        if waits != turn:
+            self._change(asking_row(self._stock, name, turn))
         return (ON_TURN, self._stock.newest) if self.waiting[0] == name else WAIT
 
     def _take(self, name, said):

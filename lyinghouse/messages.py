@@ -2,10 +2,12 @@
 
 - To NEWEST it answers ("newest", statement): the one that it keeps, None if there is none.
 - To ("block", name, number) it answers ("block", seal), the seal of this block, or NO_BLOCK if it does not hold it.
-- To ("turn", counts) it answers ("turn", statement), the one that it keeps, if the desk has the turn, WAIT if it has
-  to wait for it. If what the house keeps is somewhere below these counts, it answers as to NEWEST instead, and the
-  desk does not come to wait there; so, too, if it keeps a later statement of this desk, which asked longer ago then.
-- To FREE it answers FREED: the desk is not among those who wait, or have the turn, any more.
+- To ("turn", counts, turn) it answers ("turn", statement), the one that it keeps, if the desk has the turn, WAIT if it
+  has to wait for it. If what the house keeps is somewhere below these counts, it answers as to NEWEST instead, and the
+  desk does not come to wait there; so, too, if what the desk asked for is over: if the house keeps a later statement
+  of this desk, or has heard of a later number in the place of turn.
+- To ("free", turn) it answers FREED: whatever the desk asked for with a number below turn is over, and it is not among
+  those who wait, or have the turn, by that.
 - To ("keep", statement, blocks) it answers KEPT if it keeps this statement now, or one that stands on it, and WAIT if
   another desk has the turn. If what it keeps goes another way, it answers as to NEWEST. The blocks are all those that
   the desk has made for this statement.
@@ -15,12 +17,11 @@ Statements and blocks are said as seals. No tuple here begins with a name, or wi
 called seal, and nobody must seem to make seals of others.
 """
 
-from lyinghouse.kinds import are_counts, is_block
+from lyinghouse.kinds import GREATEST_NUMBER, are_counts, is_block, is_integer
 from lyinghouse.plain import is_deed
 from lyinghouse.values import has_seal_form
 
 NEWEST = ("newest",)
-FREE = ("free",)
 FREED = ("freed",)
 KEPT = ("kept",)
 WAIT = ("wait",)
@@ -89,10 +90,18 @@ def block_asked(message):
 
 
 def turn_asked(names, message):
-    """The counts with which the message asks for a turn; None if it asks for none."""
-    if not (isinstance(message, tuple) and len(message) == 2 and message[0] == ON_TURN):
+    """The counts and the number with which the message asks for a turn; None if it asks for none."""
+    if not (isinstance(message, tuple) and len(message) == 3 and message[0] == ON_TURN):
         return None
-    return message[1] if are_counts(message[1], len(names)) else None
+    _, counts, turn = message
+    return (counts, turn) if are_counts(counts, len(names)) and is_integer(turn, 0, GREATEST_NUMBER) else None
+
+
+def turn_freed(message):
+    """The number below which all that the desk asked for is over, as the message tells; None if it tells none."""
+    if not (isinstance(message, tuple) and len(message) == 2 and message[0] == ON_FREE):
+        return None
+    return message[1] if is_integer(message[1], 0, GREATEST_NUMBER) else None
 
 
 def statement_said(names, name, message):

@@ -6,7 +6,7 @@ from lyinghouse.plain import is_deed
 from lyinghouse.rows import no_counts
 
 WORD = "desk"
-PARTS = 10
+PARTS = 11
 
 
 class Standing:
@@ -20,6 +20,8 @@ class Standing:
         self.floor = no_counts(names)
         # The number of its next block: those below may have been said.
         self.number = 0
+        # The number with which it asks for a turn: whatever was asked for with a lesser one is over.
+        self.turn = 0
         self.doing = None
         self.made = None
         # Of a statement that is still to be said: its root, and the bodies of its blocks, the newest ones.
@@ -29,7 +31,8 @@ class Standing:
     def copy(self):
         """How a desk stands that stands alike."""
         other = Standing(self.name, self.names)
-        other.counts, other.floor, other.number = self.counts, self.floor, self.number
+        other.counts, other.floor = self.counts, self.floor
+        other.number, other.turn = self.number, self.turn
         other.doing, other.made, other.unsaid = self.doing, self.made, self.unsaid
         other.is_cheated = self.is_cheated
         return other
@@ -51,7 +54,7 @@ class Standing:
     def row(self):
         """The row that tells how the desk stands."""
         cheated = 1 if self.is_cheated else 0
-        desk = (WORD, self.name, self.names, self.counts, self.floor, self.number)
+        desk = (WORD, self.name, self.names, self.counts, self.floor, self.number, self.turn)
         return (*desk, self.doing, self.made, self.unsaid, cheated)
 
 
@@ -59,11 +62,11 @@ def standing_in(row):
     """How the desk stands that the row tells of; None if it is no such row."""
     if not (isinstance(row, tuple) and len(row) == PARTS and row[0] == WORD):
         return None
-    _, name, names, counts, floor, number, doing, made, unsaid, cheated = row
+    _, name, names, counts, floor, number, turn, doing, made, unsaid, cheated = row
     if not (is_names(names) and isinstance(name, str) and name in names and cheated in (0, 1)):
         return None
     standing = Standing(name, names)
-    standing.counts, standing.floor, standing.number = counts, floor, number
+    standing.counts, standing.floor, standing.number, standing.turn = counts, floor, number, turn
     standing.doing, standing.made, standing.unsaid = doing, made, unsaid
     standing.is_cheated = cheated == 1
     return standing if _can_be(standing) else None
@@ -73,7 +76,7 @@ def _can_be(standing):
     many = len(standing.names)
     if not (are_counts(standing.counts, many) and are_counts(standing.floor, many)):
         return False
-    if not is_integer(standing.number, 0, GREATEST_NUMBER):
+    if not (is_integer(standing.number, 0, GREATEST_NUMBER) and is_integer(standing.turn, 0, GREATEST_NUMBER)):
         return False
     if not (standing.doing is None or is_deed(standing.doing) and not standing.is_cheated):
         return False

@@ -1,7 +1,8 @@
 """Honest houses in tests: what lies in them, and desks that are led to them."""
 
 from lyinghouse.house import House
-from lyinghouse.messages import FREE, NEWEST
+from lyinghouse.messages import NEWEST
+from lyinghouse.stock import waiting_row
 from lyinghouse.trees import tree_plain
 
 
@@ -26,16 +27,13 @@ def plain_of(house):
 
 def kept(house):
     """All that a house has to know again behind a fall."""
-    bag = bag_of(house)
-    return house.names, house.counts, house.waiting, statement_of(house), [(block, bag.body(block)) for block in bag.blocks]
+    bag, stock = bag_of(house), house._stock
+    return house.names, house.counts, house.waiting, statement_of(house), stock.waiting, stock.over, [(block, bag.body(block)) for block in bag.blocks]
 
 
 def let_wait(house, names):
-    """Just these desks wait in the house from now on."""
-    for name in house.names:
-        house.hear(name, FREE)
-    for name in names:
-        house.hear(name, ("turn", house.counts))
+    """Just these desks wait in the house from now on, as if they had asked for a turn there."""
+    house._change(waiting_row(tuple((name, 0) for name in names), house._stock.over))
     assert house.waiting == names
 
 

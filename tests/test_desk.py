@@ -157,7 +157,7 @@ class Again(unittest.TestCase):
         images = [new_image(16), new_image(2000), new_image(15), desk.image[:-1] + ("x",), list(desk.image)]
         rows = [(), (1,), (None,), ("desk",), (("desk",),), (("house", *row[1:]),), (row[:-1],), ((*row, None),), (row, 7)]
         for place, wrong in enumerate([
-            ("desks",), ("cid", 1, None), (("ann",), "x", ("bob", "ann")), ((0,), (1, 0), None), ((0,), 5, (0, -1)), (-1, None, "0"),
+            ("desks",), ("cid", 1, None), (("ann",), "x", ("bob", "ann")), ((0,), (1, 0), None), ((0,), 5, (0, -1)), (-1, None, "0"), (-1, None, "0"),
             ("deed", ("look",), 7), (7, (1, (1, 0), ("make", "/a")), (1, (1, 0)), ()), (7, (("ann", 0), ()), ()), (2, -1, None, "x"),
         ]):
             rows.extend([((*row[:place], part, *row[place + 1:]),) for part in wrong])
@@ -186,13 +186,13 @@ class Again(unittest.TestCase):
         house = a_house(NAMES)
         does(desk, house, ("make", "/a"))
         row = keep_again(desk.image).rows[-1]
-        made = row[7]
-        for place, part in [(3, (2, 0)), (3, (0, 0)), (7, None), (7, (2, (2, 0), made[2])), (7, (1, (0, 1), made[2])), (7, (1, (1, 0), "x")), (8, (("ann", 0), ("x",))),
-                            (9, 1)]:
+        made = row[8]
+        for place, part in [(3, (2, 0)), (3, (0, 0)), (8, None), (8, (2, (2, 0), made[2])), (8, (1, (0, 1), made[2])), (8, (1, (1, 0), "x")), (9, (("ann", 0), ("x",))),
+                            (10, 1)]:
             keep = Keep(2000)
             keep.add((*row[:place], part, *row[place + 1:]))
             error = raised(desk_again, keep.image, 40)
-            self.assertTrue(error is None and place == 9 or raises_with(error, BadImage, None), place)
+            self.assertTrue(error is None and place == 10 or raises_with(error, BadImage, None), place)
 
 
 class Falls(unittest.TestCase):

@@ -3,7 +3,7 @@ import unittest
 
 from falling import all_left
 from honest import a_house, bag_of, does, kept, let_wait, plain_of, statement_of, work
-from lyinghouse.desk import Desk
+from lyinghouse.desk import Desk, desk_again
 from lyinghouse.discs import done_steps, new_image
 from lyinghouse.errors import BadImage, BadNames, BadNumber, BadValue, NoDesk, TooFull
 from lyinghouse.house import House, house_again
@@ -77,10 +77,11 @@ class Hearing(unittest.TestCase):
 
     def test_values_that_are_no_messages(self):
         words = ("newest", "block", "turn", "free", "keep", "freed", "kept", "wait", "house", "seal")
+        # To be free of what was asked for with numbers below 0 changes nothing, either.
         forms = [odd for odd in odd_values() if is_value(odd)] + [nested(30, 1)]
-        forms += [word for word in words] + [(word,) for word in words if word not in ("newest", "free")]
+        forms += [word for word in words] + [(word,) for word in words]
         forms += [(word, part) for word in words for part in (None, 0, "ann", (), (0,), (0, 0, 0), (1, -1), (1, None), ("ann", 0))]
-        forms += [(word, *parts) for word in words for parts in (("ann", 0, 0), ("Ann", 0), ("ann", -1), ("ann", "0"), ((1, 1), 0), (None, None), (0, ()))]
+        forms += [(word, *parts) for word in words for parts in (("ann", 0, 0), ("Ann", 0), ("ann", -1), ("ann", "0"), ((1, 1), -1), ((1, 1), None), ((1,), 0), ((1, 2), 0), ((2, 0), 0), (None, None), (0, ()))]
         for form in forms:
             for name in NAMES:
                 self.changes_nothing(name, form)
@@ -89,7 +90,7 @@ class Hearing(unittest.TestCase):
         strange = ("seal", "zed", 1)
         message = asked_to(self.ann, self.house, ("cut", "/a/x", 3), "turn")
         let_wait(self.house, ())
-        for bent in [strange, (strange,), ("newest", strange), ("free", strange), (message, strange), ("turn", (strange, 0)), nested(25, strange)]:
+        for bent in [strange, (strange,), ("newest", strange), ("free", strange), ("free", 7, strange), (message, strange), ("turn", (strange, 0), 0), ("turn", (1, 1), strange), nested(25, strange)]:
             self.changes_nothing("ann", bent)
         self.house.hear("ann", message)
         self.ann.hear(self.house.hear("ann", message))
@@ -130,15 +131,51 @@ class Hearing(unittest.TestCase):
                 self.ann.hear(answer)
         self.assertEqual((self.house.counts, self.house.waiting), ((3, 1), ()))
 
-    def test_a_turn_that_was_asked_for_ahead_of_a_statement(self):
+    def test_what_is_said_again_long_after(self):
+        """Whatever a desk said for deeds that are done gives and takes no turns."""
         let_wait(self.house, ())
-        message = asked_to(self.ann, self.house, ("make", "/b"), "turn")
-        work(self.ann, self.house)
-        self.changes_nothing("ann", message)
+        said = []
+        for number in range(6):
+            for deed in (("make", f"/b{number}"), ("make", "/a"), ("write", "/x", str(number))):
+                self.ann.ask(deed)
+                if number == 3:
+                    # Behind a fall it may have waited, as far as it knows: so it asks to be free.
+                    self.ann = desk_again(self.ann.image, 40)
+                while self.ann.doing is not None:
+                    for message in said:
+                        waiting = self.house.waiting
+                        self.house.hear("ann", message)
+                        self.assertEqual((self.house.waiting, self.house.counts[0]), (waiting, self.ann_counts()))
+                    said.append(self.ann.rest())
+                    told = self.ann.hear(self.house.hear("ann", said[-1]))
+                    self.assertNotEqual(told[0], "wait")
+        self.assertEqual(sorted({message[0] for message in said}), ["block", "free", "keep", "newest", "turn"])
+        for message in said:
+            self.house.hear("ann", message)
         self.assertEqual(self.house.waiting, ())
 
+    def ann_counts(self):
+        """How many of ann's statements the house has heard."""
+        return self.ann.counts[0] - (1 if self.ann.rest()[0] == "keep" and self.house.counts[0] < self.ann.counts[0] else 0)
+
+    def test_a_turn_that_is_needed_again(self):
+        """A desk that is free of its turn falls, and finds then that its deed needs it."""
+        let_wait(self.house, ())
+        house, other = self.house, self.house.copy()
+        asked_to(self.ann, house, ("make", "/q"), "turn")
+        house.hear("ann", self.ann.rest())
+        does(self.bob, other, ("make", "/q"))
+        # Somebody gives the wrong answer; so the desk is told of a tree in which there is nothing to be done.
+        self.ann.hear(("turn", statement_of(other)))
+        while self.ann.rest()[0] != "free":
+            self.ann.hear(other.hear("ann", self.ann.rest()))
+        self.assertEqual((house.waiting, house.hear("ann", self.ann.rest()), house.waiting), (("ann",), ("freed",), ()))
+        self.ann = desk_again(self.ann.image, 40)
+        self.assertEqual(work(self.ann, house), ("done", ("done",)))
+        self.assertEqual((house.waiting, house.counts), ((), (2, 1)))
+
     def test_seals_are_handed_on_alone(self):
-        for message in [("newest",), ("turn", (1, 1)), ("turn", (1, 2))] + [("block", *block) for block in bag_of(self.house).blocks]:
+        for message in [("newest",), ("turn", (1, 1), 0), ("turn", (1, 2), 0)] + [("block", *block) for block in bag_of(self.house).blocks]:
             for seal in all_seals(self.house.hear("ann", message)):
                 self.assertIn(seal, [statement_of(self.house)] + [bag_of(self.house).seal_of(block) for block in bag_of(self.house).blocks])
 
@@ -250,10 +287,10 @@ class Falls(unittest.TestCase):
                 desk.ask(deed)
                 while desk.doing is not None:
                     desk.hear(self.cut(house, "hear", desk.name, desk.rest()))
-            self.cut(house, "hear", "ann", ("turn", house.counts))
+            self.cut(house, "hear", "ann", ("turn", house.counts, 99))
             if number > 1:
                 self.cut(house, "pack")
-            self.cut(house, "hear", "ann", ("free",))
+            let_wait(house, ())
         self.assertEqual(sum(house.counts), 3)
 
 
@@ -317,7 +354,7 @@ class Room(unittest.TestCase):
         self.assertTrue(raises_with(raised(house.hear, "ann", message), TooFull, 1000))
         self.assertEqual(does(bob, house, ("look", "/")), ("done", ("folder", number - 1)))
         house.pack()
-        self.assertEqual((kept(house)[:4], house.waiting), (before[0][:4], ("ann",)))
+        self.assertEqual((kept(house)[:-1], house.waiting), (before[0][:-1], ("ann",)))
         self.assertTrue(raises_with(raised(house.hear, "ann", message), TooFull, 1000))
         self.assertEqual(kept(house_again(house.image)), kept(house))
 
@@ -365,7 +402,8 @@ class Again(unittest.TestCase):
         statement, seals = rows[-2][1:]
         rows_of += [(head, row) for row in (
             None, (), ("kept",), ("kept", statement), ("kept", None, seals), ("kept", statement, None), ("kept", statement, (None,)), ("kept", statement, (statement,)),
-            ("waits",), ("waits", None), ("waits", ("cid",)), ("waits", ("ann", "ann")), ("waits", ("ann", "bob", "ann")), ("waits", (1,)), ("waits", ("ann",), 1), ("held", ()))]
+            ("waits",), ("waits", ()), ("waits", None, (0, 0)), ("waits", (("cid", 0),), (0, 0)), ("waits", (("ann", 0), ("ann", 1)), (0, 0)), ("waits", ("ann",), (0, 0)), ("waits", (("ann",),), (0, 0)),
+            ("waits", (("ann", -1),), (0, 0)), ("waits", (("ann", 0, 0),), (0, 0)), ("waits", (), (0,)), ("waits", (), (0, 0, 0)), ("waits", (), (0, -1)), ("waits", (), None), ("waits", (), (0, 0), 1), ("held", (), (0, 0)))]
         rows_of += [(head, rows[-2], ("kept", statement, (("seal", "ann", ("block", seals[0][2][1], "other")),)))]
         for values in rows_of:
             keep = Keep(1000)

@@ -167,6 +167,7 @@ class Honest(World):
         # The trees of all statements that the house kept, one after the other.
         self.trees = [PlainTree()]
         self.since = {}
+        self.elder = {name: [] for name in names}
 
     def call_house(self, call, *args, falls=0.0):
         """Calls the house; with this chance it falls in the call, or behind it: then None is told."""
@@ -206,6 +207,12 @@ class Honest(World):
         deed, before, answer = desk.doing, desk.counts, None
         for _ in range(self.chance.choice((1, 1, 1, 2, 3))):
             answer = self.call_house("hear", watched.name, watched.rest(), falls=falls / 3)
+        elder = self.elder[watched.name]
+        if watched.rest() not in elder:
+            elder.append(watched.rest())
+        if self.chance.random() < 0.1:
+            # What was said long ago is heard once more: nobody hears the answer.
+            self.call_house("hear", watched.name, self.chance.choice(elder[-40:]), falls=falls / 3)
         is_lost = answer is None or self.chance.random() < falls / 2
         told = None if is_lost else watched.hears(answer, falls)
         if told is not None and told[0] == "done":
