@@ -187,9 +187,9 @@ class Desk:
         base = base_told(self.names, ON_NEWEST, answer)
         if base is not None and not self._is_beginning_of(base[0]):
             return self._find_cheated()
-        # What is neither told to who waits for a turn, nor where it is not to be had, answers something else.
-        is_of_use = answer == WAIT or base is not None and not self._is_at_floor(base[0])
-        return self._begin_anew() if is_of_use else self._wait()
+        is_below = base is not None and not self._is_at_floor(base[0])
+        # All else is no answer to what was said last, but perhaps one to what was said ahead of it.
+        return self._begin_anew() if answer == WAIT or is_below else self._wait()
 
     def _hear_freed(self, answer):
         if answer != FREED:

@@ -232,6 +232,15 @@ class Turns(unittest.TestCase):
 
 class Copies(unittest.TestCase):
 
+    def test_equal_calls(self):
+        houses = [a_house(NAMES, 1000), a_house(NAMES, 1000)]
+        pairs = [desks(), desks()]
+        for deed in (("make", "/a"), ("write", "/a/x", "y" * 90), ("list", "/a"), ("remove", "/a")):
+            for at in (0, 1):
+                told = [does(pair[at], house, deed) for pair, house in zip(pairs, houses)]
+                self.assertEqual(told[0], told[1])
+            self.assertEqual((seen(houses[0]), pairs[0][0].image), (seen(houses[1]), pairs[1][0].image))
+
     def test_what_is_done_with_one_does_not_change_the_other(self):
         house = a_house(NAMES, 1000)
         ann, bob = desks()

@@ -134,7 +134,7 @@ class Runs(unittest.TestCase):
             self.assertEqual(run_of(WHOLE, seed % 2 == 0, events), told)
             self.assertFalse({row[0] for row in told} & set(WRONG))
         self.assertEqual((least_wrong(WHOLE), wrong_words(WHOLE)), (None, ()))
-        self.assertEqual(first_wrong(WHOLE, 5), {})
+        self.assertEqual(first_wrong(WHOLE, 8), {})
 
     def test_a_desk_that_refuses_and_one_that_waits_for_nobody(self):
         events = (("make", "a"), ("make", "b"), ("hand", "b"), ("hand", "a"), ("show", "a", 1))
@@ -148,7 +148,7 @@ class LeastWrong(unittest.TestCase):
 
     def test_each_rule(self):
         for rule in RULES:
-            found = first_wrong(rule, 5)
+            found = first_wrong(rule, 8)
             self.assertEqual(tuple(sorted(found)), wrong_words(rule))
             told = least_wrong(rule)
             if rule == WHOLE:
